@@ -1,0 +1,127 @@
+package rules
+
+import (
+	"go/ast"
+	"testing"
+)
+
+// find tells whether a part of a package's code is as it is asked.
+func find(l []goFile, pack string, is func(n ast.Node) bool) bool {
+	found := false
+	for _, s := range l {
+		if s.file.Name.Name != pack {
+			continue
+		}
+		ast.Inspect(s.file, func(n ast.Node) bool {
+			found = found || n != nil && is(n)
+			return !found
+		})
+	}
+	return found
+}
+
+// fieldsOf answers the name and the fields of a struct, where one is declared.
+func fieldsOf(n ast.Node) (string, []*ast.Field) {
+	if x, ok := n.(*ast.TypeSpec); ok {
+		if s, ok := x.Type.(*ast.StructType); ok {
+			return x.Name.Name, s.Fields.List
+		}
+	}
+	return "", nil
+}
+
+func isCallOf(n ast.Node, name string) bool {
+	c, ok := n.(*ast.CallExpr)
+	if !ok {
+		return false
+	}
+	f, ok := c.Fun.(*ast.Ident)
+	return ok && f.Name == name
+}
+
+func inside(n ast.Node, is func(n ast.Node) bool) bool {
+	found := false
+	ast.Inspect(n, func(m ast.Node) bool {
+		found = found || m != nil && is(m)
+		return !found
+	})
+	return found
+}
+
+// TestWordsAreMadeReadyByAnObjectsOnce: and a reader embeds that object.
+func TestWordsAreMadeReadyByAnObjectsOnce(t *testing.T) {
+	l := sources(t)
+	owner := ""
+	find(l, "lex", func(n ast.Node) bool {
+		name, fields := fieldsOf(n)
+		for _, f := range fields {
+			if isSelector(f.Type, "sync", "Once") {
+				owner = name
+			}
+		}
+		return owner != ""
+	})
+	if owner == "" {
+		t.Fatal("no object of lex has a sync.Once")
+	}
+	if !find(l, "lex", func(n ast.Node) bool {
+		_, fields := fieldsOf(n)
+		for _, f := range fields {
+			if id, ok := f.Type.(*ast.Ident); ok && len(f.Names) == 0 && id.Name == owner {
+				return true
+			}
+		}
+		return false
+	}) {
+		t.Error("nothing of lex embeds " + owner)
+	}
+}
+
+// TestFacesCatchByTypeSwitch: the reader gives up by panic, the face catches that by defer, recover and a type switch.
+func TestFacesCatchByTypeSwitch(t *testing.T) {
+	l := sources(t)
+	for pack, face := range map[string]string{"lex": "Scan", "tree": "Parse"} {
+		if !find(l, pack, func(n ast.Node) bool { return isCallOf(n, "panic") }) {
+			t.Error("nothing of " + pack + " gives up by panic")
+		}
+		if !find(l, pack, func(n ast.Node) bool {
+			f, ok := n.(*ast.FuncDecl)
+			return ok && f.Name.Name == face && inside(f, deferredSwitch)
+		}) {
+			t.Error(pack + "." + face + " doesn't catch what is given up")
+		}
+	}
+}
+
+func deferredSwitch(n ast.Node) bool {
+	d, ok := n.(*ast.DeferStmt)
+	if !ok {
+		return false
+	}
+	lit, ok := d.Call.Fun.(*ast.FuncLit)
+	return ok && inside(lit, func(m ast.Node) bool {
+		s, ok := m.(*ast.TypeSwitchStmt)
+		return ok && inside(s.Assign, func(k ast.Node) bool { return isCallOf(k, "recover") })
+	})
+}
+
+// TestClosuresTellWhichBytesGoOn: a function literal about a byte is handed to what moves on.
+func TestClosuresTellWhichBytesGoOn(t *testing.T) {
+	if !find(sources(t), "lex", func(n ast.Node) bool {
+		c, ok := n.(*ast.CallExpr)
+		if !ok {
+			return false
+		}
+		for _, a := range c.Args {
+			if f, ok := a.(*ast.FuncLit); ok && f.Type.Results != nil && len(f.Type.Params.List) == 1 {
+				id, ok := f.Type.Params.List[0].Type.(*ast.Ident)
+				if ok && id.Name == "byte" {
+					return true
+				}
+			}
+		}
+		return false
+	}) {
+		t.Error("no closure of lex tells which bytes go on")
+	}
+}
