@@ -125,3 +125,52 @@ func TestClosuresTellWhichBytesGoOn(t *testing.T) {
 		t.Error("no closure of lex tells which bytes go on")
 	}
 }
+
+// TestSeenAndSureAreMapsAndDeletedFrom: of types.
+func TestSeenAndSureAreMapsAndDeletedFrom(t *testing.T) {
+	l := sources(t)
+	for _, name := range []string{"seen", "sure"} {
+		if !find(l, "types", func(n ast.Node) bool { return deletesFrom(n, name) }) {
+			t.Error("nothing of types is deleted from what is " + name)
+		}
+	}
+	if !find(l, "types", func(n ast.Node) bool { _, ok := n.(*ast.MapType); return ok }) {
+		t.Error("types has no map")
+	}
+}
+
+func deletesFrom(n ast.Node, field string) bool {
+	if !isCallOf(n, "delete") {
+		return false
+	}
+	s, ok := n.(*ast.CallExpr).Args[0].(*ast.SelectorExpr)
+	return ok && s.Sel.Name == field
+}
+
+// TestArraysStandBehindPointers: a value of source has a pointer to a struct with a list of numbers.
+func TestArraysStandBehindPointers(t *testing.T) {
+	l := sources(t)
+	lists := map[string]bool{}
+	find(l, "source", func(n ast.Node) bool {
+		name, fields := fieldsOf(n)
+		for _, f := range fields {
+			if a, ok := f.Type.(*ast.ArrayType); ok && a.Len == nil && len(fields) == 1 {
+				lists[name] = true
+			}
+		}
+		return false
+	})
+	if !find(l, "source", func(n ast.Node) bool {
+		_, fields := fieldsOf(n)
+		for _, f := range fields {
+			if p, ok := f.Type.(*ast.StarExpr); ok {
+				if id, ok := p.X.(*ast.Ident); ok && lists[id.Name] {
+					return true
+				}
+			}
+		}
+		return false
+	}) {
+		t.Error("no value of source has an array behind a pointer")
+	}
+}
