@@ -5,6 +5,9 @@ import (
 	"testing"
 
 	"teasel/api"
+	"teasel/code"
+	"teasel/flow"
+	"teasel/samples"
 	"teasel/source"
 	"teasel/tree"
 	"teasel/types"
@@ -14,6 +17,9 @@ import (
 type arguments struct {
 	Prog  api.Prog
 	Input []int64
+	Graph [][]int
+	Above []int
+	Code  api.Code
 }
 
 // TestWhatIsHandedInIsNotChanged: its spare room neither.
@@ -25,8 +31,25 @@ func TestWhatIsHandedInIsNotChanged(t *testing.T) {
 		"types.Check":  func(a arguments) api.Errno { _, _, e := types.Check(a.Prog); return e },
 		"source.Run":   func(a arguments) api.Errno { _, e := source.Run(a.Prog, a.Input, 99); return e },
 		"source.State": func(a arguments) api.Errno { _, _, e := source.State(a.Prog, a.Input, 17); return e },
+		"flow.Order":   func(a arguments) api.Errno { _, e := flow.Order(a.Graph); return e },
+		"flow.Above":   func(a arguments) api.Errno { _, e := flow.Above(a.Graph); return e },
+		"flow.Borders": func(a arguments) api.Errno { _, e := flow.Borders(a.Graph); return e },
+		"flow.Loops":   func(a arguments) api.Errno { _, e := flow.Loops(a.Graph); return e },
+		"flow.Into":    func(a arguments) api.Errno { _, e := flow.Into(a.Graph); return e },
+		"flow.Over":    func(a arguments) api.Errno { flow.Over(a.Above, 0, 3); return api.OK },
+		"code.Check":   func(a arguments) api.Errno { return code.Check(a.Code) },
+		"code.Plain":   func(a arguments) api.Errno { code.Plain(a.Code); return api.OK },
+		"code.Copy":    func(a arguments) api.Errno { code.Copy(a.Code); return api.OK },
+		"code.Size":    func(a arguments) api.Errno { code.Size(a.Code); return api.OK },
+		"code.Graph":   func(a arguments) api.Errno { code.Graph(a.Code.Funs[0]); return api.OK },
 	} {
-		args := sized(reflect.ValueOf(arguments{p, []int64{5, 6, 7, 8}}), roomy)
+		args := sized(reflect.ValueOf(arguments{
+			Prog:  p,
+			Input: []int64{5, 6, 7, 8},
+			Graph: [][]int{{1, 2}, {2, 3, 1}, {1, 0}, {3, 3}, {1, 2}},
+			Above: []int{-1, 0, 1, 2},
+			Code:  samples.Code(6, 3, 0),
+		}), roomy)
 		before := sized(args, stretched)
 		if e := call(args.Interface().(arguments)); e != api.OK {
 			t.Errorf("%s tells the error %d", name, e)

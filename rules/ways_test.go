@@ -174,3 +174,55 @@ func TestArraysStandBehindPointers(t *testing.T) {
 		t.Error("no value of source has an array behind a pointer")
 	}
 }
+
+// TestWalksAreGoneThroughByRangeOverIntegers: of flow.
+func TestWalksAreGoneThroughByRangeOverIntegers(t *testing.T) {
+	if !find(sources(t), "flow", func(n ast.Node) bool {
+		f, ok := n.(*ast.FuncDecl)
+		return ok && inside(f.Type, func(m ast.Node) bool { return isName(m, "walk") }) && inside(f.Body, func(m ast.Node) bool {
+			r, ok := m.(*ast.RangeStmt)
+			return ok && (isCallOf(r.X, "len") || isName(r.X, "n"))
+		})
+	}) {
+		t.Error("no walk of flow is gone through by range over integers")
+	}
+}
+
+func isName(n ast.Node, name string) bool {
+	id, ok := n.(*ast.Ident)
+	return ok && id.Name == name
+}
+
+// TestWhatMeetsIsToldByAClosure: of flow.
+func TestWhatMeetsIsToldByAClosure(t *testing.T) {
+	if !find(sources(t), "flow", func(n ast.Node) bool {
+		a, ok := n.(*ast.AssignStmt)
+		if !ok || !isName(a.Lhs[0], "meet") {
+			return false
+		}
+		_, ok = a.Rhs[0].(*ast.FuncLit)
+		return ok
+	}) {
+		t.Error("no closure of flow tells what meets")
+	}
+}
+
+// TestALoopsNodesStandInAMapThatIsGoneThrough: of flow.
+func TestALoopsNodesStandInAMapThatIsGoneThrough(t *testing.T) {
+	if !find(sources(t), "flow", func(n ast.Node) bool {
+		f, ok := n.(*ast.FuncDecl)
+		if !ok {
+			return false
+		}
+		maps := ""
+		return inside(f, func(m ast.Node) bool {
+			if a, ok := m.(*ast.AssignStmt); ok && inside(a, func(k ast.Node) bool { _, is := k.(*ast.MapType); return is }) {
+				maps = a.Lhs[0].(*ast.Ident).Name
+			}
+			r, ok := m.(*ast.RangeStmt)
+			return ok && maps != "" && isName(r.X, maps)
+		})
+	}) {
+		t.Error("no map of flow is gone through")
+	}
+}

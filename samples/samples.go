@@ -1,4 +1,4 @@
-// Package samples makes programs' texts from numbers, for tests: one number always makes the same text.
+// Package samples makes programs' texts, and code between, from numbers, for tests: one number always makes the same.
 package samples
 
 import "strings"

@@ -1,0 +1,135 @@
+package samples
+
+import "teasel/api"
+
+// block fills a block; the first one begins with a number, so that there is a value for all that follows.
+func (c *coder) block(i int) {
+	b := &c.fun.Blocks[i]
+	if i > 0 {
+		for range c.below(3) {
+			b.Phis = append(b.Phis, api.Inst{Op: api.IPhi, Dst: c.make(api.IPhi, i, -1)})
+		}
+	} else {
+		b.Insts = append(b.Insts, c.inst(api.IConst, 0, 0))
+		for p := range c.fun.Params {
+			x := c.inst(api.IParam, 0, len(b.Insts))
+			x.Imm = int64(p)
+			b.Insts = append(b.Insts, x)
+		}
+	}
+	for range c.below(7) {
+		b.Insts = append(b.Insts, c.inst(c.op(i), i, len(b.Insts)))
+	}
+	if b.End == api.Branch || b.End == api.RetVal {
+		b.Arg = c.value(i, len(b.Insts), api.Lt+byte(c.below(6)))
+	}
+}
+
+// op answers one that may stand in a block; those of arrays mostly where there is one.
+func (c *coder) op(block int) byte {
+	switch c.below(16) {
+	case 0, 1, 2:
+		return api.IMark
+	case 3, 4:
+		return api.IConst
+	case 5:
+		return api.Neg + byte(c.below(3))
+	case 6:
+		return api.IPrint
+	case 7:
+		return byte(pickOf(&c.dice, api.ICopy, api.IRead, api.ITop, api.IAlloc))
+	case 8:
+		if c.has(block, api.ITop) && c.once(2) {
+			return api.IFree
+		}
+		return api.ICall
+	case 9, 10:
+		if c.has(block, api.IAlloc) || c.once(20) {
+			return byte(pickOf(&c.dice, api.ILoad, api.IStore, api.ILen))
+		}
+	case 11, 12:
+		if c.fun.Vars > 0 {
+			return byte(pickOf(&c.dice, api.IGet, api.ISet))
+		}
+	}
+	return api.Add + byte(c.below(16))
+}
+
+func pickOf(d *dice, l ...int64) int64 {
+	return l[d.below(len(l))]
+}
+
+// inst answers an instruction of an Op, with values that are made ahead of it.
+func (c *coder) inst(op byte, block, at int) api.Inst {
+	x := api.Inst{Op: op, Dst: -1, Site: c.below(len(c.code.Stops))}
+	switch op {
+	case api.IConst:
+		x.Imm = pickOf(&c.dice, 0, 0, 1, 1, 2, 3, 4, 7, 12, 63, 64, -1, -2, 1<<32, 1<<62, -1<<63)
+	case api.IAlloc:
+		x.Imm = pickOf(&c.dice, 1, 2, 3, 4, 8, 256)
+	case api.IGet, api.ISet:
+		x.Imm = int64(c.below(c.fun.Vars))
+	case api.ICall:
+		x.Imm = int64(c.below(len(c.code.Funs)))
+	}
+	for _, kind := range c.kinds(x) {
+		x.Args = append(x.Args, c.value(block, at, kind))
+	}
+	if op == api.IMark || op == api.ICall {
+		x.Dbg = c.known(x.Site, block, at)
+	}
+	switch op {
+	case api.IStore, api.IFree, api.IPrint, api.IMark, api.ISet:
+		return x
+	case api.ICall:
+		if c.once(3) {
+			return x
+		}
+	}
+	x.Dst = c.make(op, block, at)
+	return x
+}
+
+// kinds answers for each Arg of an instruction by what it is best made; 0: by anything.
+func (c *coder) kinds(x api.Inst) []byte {
+	switch x.Op {
+	case api.IConst, api.IParam, api.IAlloc, api.ITop, api.IRead, api.IMark, api.IGet:
+		return nil
+	case api.Neg, api.Not, api.Bang, api.ICopy, api.IPrint, api.ISet:
+		return []byte{0}
+	case api.ILen:
+		return []byte{api.IAlloc}
+	case api.ILoad:
+		return []byte{api.IAlloc, api.IConst}
+	case api.IStore:
+		return []byte{api.IAlloc, api.IConst, 0}
+	case api.IFree:
+		return []byte{api.ITop}
+	case api.ICall:
+		return make([]byte, c.code.Funs[x.Imm].Params)
+	}
+	return []byte{0, byte(pickOf(&c.dice, 0, 0, 0, api.IConst))}
+}
+
+// known answers what is known of some variables of the frames of a stop.
+func (c *coder) known(site, block, at int) []api.Dbg {
+	var l []api.Dbg
+	for depth := range c.code.Stops[site] {
+		for v := range 4 {
+			if !c.once(3) {
+				continue
+			}
+			d := api.Dbg{Depth: depth, Var: v, Kind: api.DNum, B: int64(c.below(9))}
+			if c.once(2) {
+				d.Kind, d.Arg, d.A = api.DVal, c.value(block, at, 0), pickOf(&c.dice, 1, 1, 1, 4, -1)
+			} else if c.fun.Vars > 0 && c.once(2) {
+				d.Kind, d.Arg = api.DVar, c.below(c.fun.Vars)
+			}
+			l = append(l, d)
+		}
+	}
+	for i, k := range c.shuffled(len(l)) {
+		l[i], l[k] = l[k], l[i]
+	}
+	return l
+}
