@@ -1,14 +1,18 @@
 package rules
 
 import (
+	"cmp"
 	"reflect"
+	"slices"
 	"testing"
 
 	"teasel/api"
 	"teasel/code"
 	"teasel/flow"
+	"teasel/lower"
 	"teasel/samples"
 	"teasel/source"
+	"teasel/trace"
 	"teasel/tree"
 	"teasel/types"
 )
@@ -22,42 +26,98 @@ type arguments struct {
 	Code  api.Code
 }
 
+// asked are calls that are built, each with its answer and its error.
+func asked() map[string]func(a arguments) (any, api.Errno) {
+	return map[string]func(a arguments) (any, api.Errno){
+		"tree.Show":     func(a arguments) (any, api.Errno) { return tree.Show(a.Prog), api.OK },
+		"types.Check":   func(a arguments) (any, api.Errno) { l, _, e := types.Check(a.Prog); return l, e },
+		"source.Run":    func(a arguments) (any, api.Errno) { l, e := source.Run(a.Prog, a.Input, 99); return l, e },
+		"source.State":  func(a arguments) (any, api.Errno) { l, _, e := source.State(a.Prog, a.Input, 17); return l, e },
+		"flow.Order":    func(a arguments) (any, api.Errno) { l, e := flow.Order(a.Graph); return l, e },
+		"flow.Above":    func(a arguments) (any, api.Errno) { l, e := flow.Above(a.Graph); return l, e },
+		"flow.Borders":  func(a arguments) (any, api.Errno) { l, e := flow.Borders(a.Graph); return l, e },
+		"flow.Loops":    func(a arguments) (any, api.Errno) { l, e := flow.Loops(a.Graph); return l, e },
+		"flow.Into":     func(a arguments) (any, api.Errno) { l, e := flow.Into(a.Graph); return l, e },
+		"flow.Over":     func(a arguments) (any, api.Errno) { return flow.Over(a.Above, 0, 3), api.OK },
+		"code.Check":    func(a arguments) (any, api.Errno) { return 0, code.Check(a.Code) },
+		"code.Plain":    func(a arguments) (any, api.Errno) { return code.Plain(a.Code), api.OK },
+		"code.Copy":     func(a arguments) (any, api.Errno) { return code.Copy(a.Code), api.OK },
+		"code.Size":     func(a arguments) (any, api.Errno) { return code.Size(a.Code), api.OK },
+		"code.Graph":    func(a arguments) (any, api.Errno) { return code.Graph(a.Code.Funs[0]), api.OK },
+		"trace.Run":     func(a arguments) (any, api.Errno) { l, e := trace.Run(a.Code, a.Input, 300); return l, e },
+		"trace.State":   func(a arguments) (any, api.Errno) { l, _, e := trace.State(a.Code, a.Input, 4, 300); return l, e },
+		"lower.Program": func(a arguments) (any, api.Errno) { l, _, e := lower.Program(a.Prog); return l, e },
+	}
+}
+
+// handed answers arguments with spare room in each list.
+func handed() reflect.Value {
+	const text = "fn f(a: arr, n: int): int { let x: int; a[n] = read(); if n > 0 && true { x = f(a, n - 1) + a[n]; } else { x = -a[0]; } return x; } fn main(): int { let a: arr[3]; let i: int = 0; while i < 2 { print f(a, i); i = i + 1; } return len(a); }"
+	p, _, _ := tree.Parse(text)
+	return sized(reflect.ValueOf(arguments{
+		Prog:  p,
+		Input: []int64{5, 6, 7, 8},
+		Graph: [][]int{{1, 2}, {2, 3, 1}, {1, 0}, {3, 3}, {1, 2}},
+		Above: []int{-1, 0, 1, 2},
+		Code:  samples.Code(29, 3, 0),
+	}), roomy)
+}
+
 // TestWhatIsHandedInIsNotChanged: its spare room neither.
 func TestWhatIsHandedInIsNotChanged(t *testing.T) {
-	const text = "fn f(a: arr, n: int): int { let x: int; a[n] = read(); if n > 0 { x = f(a, n - 1) + a[n]; } else { x = -a[0]; } return x; } fn main(): int { let a: arr[3]; let i: int = 0; while i < 2 { print f(a, i); i = i + 1; } return len(a); }"
-	p, _, _ := tree.Parse(text)
-	for name, call := range map[string]func(a arguments) api.Errno{
-		"tree.Show":    func(a arguments) api.Errno { tree.Show(a.Prog); return api.OK },
-		"types.Check":  func(a arguments) api.Errno { _, _, e := types.Check(a.Prog); return e },
-		"source.Run":   func(a arguments) api.Errno { _, e := source.Run(a.Prog, a.Input, 99); return e },
-		"source.State": func(a arguments) api.Errno { _, _, e := source.State(a.Prog, a.Input, 17); return e },
-		"flow.Order":   func(a arguments) api.Errno { _, e := flow.Order(a.Graph); return e },
-		"flow.Above":   func(a arguments) api.Errno { _, e := flow.Above(a.Graph); return e },
-		"flow.Borders": func(a arguments) api.Errno { _, e := flow.Borders(a.Graph); return e },
-		"flow.Loops":   func(a arguments) api.Errno { _, e := flow.Loops(a.Graph); return e },
-		"flow.Into":    func(a arguments) api.Errno { _, e := flow.Into(a.Graph); return e },
-		"flow.Over":    func(a arguments) api.Errno { flow.Over(a.Above, 0, 3); return api.OK },
-		"code.Check":   func(a arguments) api.Errno { return code.Check(a.Code) },
-		"code.Plain":   func(a arguments) api.Errno { code.Plain(a.Code); return api.OK },
-		"code.Copy":    func(a arguments) api.Errno { code.Copy(a.Code); return api.OK },
-		"code.Size":    func(a arguments) api.Errno { code.Size(a.Code); return api.OK },
-		"code.Graph":   func(a arguments) api.Errno { code.Graph(a.Code.Funs[0]); return api.OK },
-	} {
-		args := sized(reflect.ValueOf(arguments{
-			Prog:  p,
-			Input: []int64{5, 6, 7, 8},
-			Graph: [][]int{{1, 2}, {2, 3, 1}, {1, 0}, {3, 3}, {1, 2}},
-			Above: []int{-1, 0, 1, 2},
-			Code:  samples.Code(6, 3, 0),
-		}), roomy)
+	for name, call := range asked() {
+		args := handed()
 		before := sized(args, stretched)
-		if e := call(args.Interface().(arguments)); e != api.OK {
+		if _, e := call(args.Interface().(arguments)); e != api.OK {
 			t.Errorf("%s tells the error %d", name, e)
 		}
 		if !reflect.DeepEqual(sized(args, stretched).Interface(), before.Interface()) {
 			t.Errorf("%s changes what is handed in", name)
 		}
 	}
+}
+
+// TestAnswersAreNewMemory: no list of an answer, spare room too, shares any with another one of it, with an argument, or with an earlier answer.
+func TestAnswersAreNewMemory(t *testing.T) {
+	for name, call := range asked() {
+		args := handed()
+		first, _ := call(args.Interface().(arguments))
+		again, _ := call(args.Interface().(arguments))
+		var l []room
+		for _, v := range []any{args.Interface(), first, again} {
+			l = rooms(reflect.ValueOf(v), l)
+		}
+		slices.SortFunc(l, func(a, b room) int { return cmp.Compare(a.first, b.first) })
+		for i := range l[1:] {
+			if l[i].end > l[i+1].first {
+				t.Errorf("two lists of %s share memory", name)
+			}
+		}
+	}
+}
+
+// room is the memory that a list has.
+type room struct {
+	first uintptr
+	end   uintptr
+}
+
+// rooms adds to a list the memory of all lists of a thing.
+func rooms(v reflect.Value, l []room) []room {
+	switch v.Kind() {
+	case reflect.Struct:
+		for i := range v.NumField() {
+			l = rooms(v.Field(i), l)
+		}
+	case reflect.Slice:
+		if v.Cap() > 0 {
+			l = append(l, room{v.Pointer(), v.Pointer() + uintptr(v.Cap())*v.Type().Elem().Size()})
+		}
+		for i := range v.Len() {
+			l = rooms(v.Index(i), l)
+		}
+	}
+	return l
 }
 
 // sized answers a copy of a thing, each list of which has as many items, and as much room, as size says of it.

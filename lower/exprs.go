@@ -1,0 +1,65 @@
+package lower
+
+import "teasel/api"
+
+// expr answers the value of an expression.
+func (w *writer) expr(e api.Expr) int {
+	switch e.Kind {
+	case api.EVar:
+		return w.variable(e.Name)
+	case api.EElem:
+		array := w.variable(e.Name)
+		return w.make(api.ILoad, 0, array, w.expr(e.Args[0]))
+	case api.ECall:
+		fn, args := w.called(e)
+		return w.make(api.ICall, fn, args...)
+	case api.ERead:
+		return w.make(api.IRead, 0)
+	case api.ELen:
+		return w.make(api.ILen, 0, w.variable(e.Name))
+	case api.EUn:
+		return w.make(e.Op, 0, w.expr(e.Args[0]))
+	case api.EBin:
+		return w.binary(e)
+	}
+	return w.make(api.IConst, e.N)
+}
+
+func (w *writer) variable(name string) int {
+	return w.make(api.IGet, int64(w.numbers[name]))
+}
+
+// called answers the function that is called, and the values that it is given.
+func (w *writer) called(e api.Expr) (int64, []int) {
+	args := make([]int, len(e.Args))
+	for i, a := range e.Args {
+		args[i] = w.expr(a)
+	}
+	return int64(w.funcs[e.Name]), args
+}
+
+func (w *writer) binary(e api.Expr) int {
+	if e.Op == api.LAnd || e.Op == api.LOr {
+		return w.lazy(e)
+	}
+	left := w.expr(e.Args[0])
+	return w.make(e.Op, 0, left, w.expr(e.Args[1]))
+}
+
+// lazy goes round the right operand where the left one decides: what is answered then is the left one. As the block from which that comes was made first, its value is the phi's first.
+func (w *writer) lazy(e api.Expr) int {
+	left := w.expr(e.Args[0])
+	from := w.block
+	look := w.begin()
+	right := w.expr(e.Args[1])
+	behind := w.next()
+	if e.Op == api.LAnd {
+		w.branch(from, left, look, behind)
+	} else {
+		w.branch(from, left, behind, look)
+	}
+	v := w.value()
+	b := &w.fun.Blocks[behind]
+	b.Phis = append(b.Phis, api.Inst{Op: api.IPhi, Dst: v, Args: []int{left, right}})
+	return v
+}
