@@ -12,6 +12,7 @@ import (
 	"teasel/lower"
 	"teasel/samples"
 	"teasel/source"
+	"teasel/ssa"
 	"teasel/trace"
 	"teasel/tree"
 	"teasel/types"
@@ -47,6 +48,7 @@ func asked() map[string]func(a arguments) (any, api.Errno) {
 		"trace.Run":     func(a arguments) (any, api.Errno) { l, e := trace.Run(a.Code, a.Input, 300); return l, e },
 		"trace.State":   func(a arguments) (any, api.Errno) { l, _, e := trace.State(a.Code, a.Input, 4, 300); return l, e },
 		"lower.Program": func(a arguments) (any, api.Errno) { l, _, e := lower.Program(a.Prog); return l, e },
+		"ssa.Build":     func(a arguments) (any, api.Errno) { l, e := ssa.Build(a.Code); return l, e },
 	}
 }
 

@@ -4,7 +4,22 @@ import "teasel/api"
 
 // Code answers code between, whose functions have at most so many variables. With 0 faults it is right, and plain if it has no variables; else about that many of its numbers are others. Which loops it has comes about by chance, so that many a run of it doesn't end.
 func Code(seed uint64, vars, faults int) api.Code {
-	c := coder{dice: dice{state: seed}, vars: vars}
+	c := coder{dice: dice{state: seed}, vars: vars, blocks: 8}
+	c.write()
+	for range faults {
+		c.spoil()
+	}
+	return c.code
+}
+
+// Ways answers right code whose functions have at most so many blocks and variables: the variables are set, got and known at marks more often than anything else is done, and at each branch the way is chosen by what is read, so that an input of noughts and ones leads through it.
+func Ways(seed uint64, blocks, vars int) api.Code {
+	c := coder{dice: dice{state: seed}, vars: vars, blocks: blocks, wanders: true}
+	c.write()
+	return c.code
+}
+
+func (c *coder) write() {
 	c.code.Funs = make([]api.Fun, 1+c.below(4))
 	c.code.Main = c.below(len(c.code.Funs))
 	for range 1 + c.below(6) {
@@ -18,21 +33,19 @@ func Code(seed uint64, vars, faults int) api.Code {
 	for i := range c.code.Funs {
 		c.function(&c.code.Funs[i])
 	}
-	for range faults {
-		c.spoil()
-	}
-	return c.code
 }
 
-// coder writes code; in fun is the function that is being written, in names the numbers of its values that are free, in made those that are made, in above which blocks dominate which.
+// coder writes code, that wanders if it is made by Ways; in fun is the function that is being written, in names the numbers of its values that are free, in made those that are made, in above which blocks dominate which.
 type coder struct {
 	dice
-	vars  int
-	code  api.Code
-	fun   *api.Fun
-	names []int
-	made  []making
-	above [][]bool
+	vars    int
+	blocks  int
+	wanders bool
+	code    api.Code
+	fun     *api.Fun
+	names   []int
+	made    []making
+	above   [][]bool
 }
 
 // making is of a value where it is made (a phi at -1), and by what.
@@ -54,7 +67,7 @@ func (c *coder) stop() []api.Spot {
 func (c *coder) function(f *api.Fun) {
 	c.fun, c.made = f, nil
 	f.Vars = c.below(c.vars + 1)
-	f.Blocks = make([]api.Block, 1+c.below(8))
+	f.Blocks = make([]api.Block, 1+c.below(c.blocks))
 	f.Vals = 10*len(f.Blocks) + c.below(3)
 	c.names = c.shuffled(f.Vals)
 	c.ways()

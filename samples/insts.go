@@ -20,13 +20,20 @@ func (c *coder) block(i int) {
 	for range c.below(7) {
 		b.Insts = append(b.Insts, c.inst(c.op(i), i, len(b.Insts)))
 	}
-	if b.End == api.Branch || b.End == api.RetVal {
+	if b.End == api.Branch && c.wanders {
+		read := c.inst(api.IRead, i, len(b.Insts))
+		b.Insts = append(b.Insts, read)
+		b.Arg = read.Dst
+	} else if b.End == api.Branch || b.End == api.RetVal {
 		b.Arg = c.value(i, len(b.Insts), api.Lt+byte(c.below(6)))
 	}
 }
 
 // op answers one that may stand in a block; those of arrays mostly where there is one.
 func (c *coder) op(block int) byte {
+	if c.wanders {
+		return c.busy()
+	}
 	switch c.below(16) {
 	case 0, 1, 2:
 		return api.IMark
@@ -53,6 +60,17 @@ func (c *coder) op(block int) byte {
 		}
 	}
 	return api.Add + byte(c.below(16))
+}
+
+// busy answers mostly those of variables, and those that tell what they have.
+func (c *coder) busy() byte {
+	if c.fun.Vars > 0 && c.once(2) {
+		return byte(pickOf(&c.dice, api.IGet, api.ISet))
+	}
+	if c.once(12) {
+		return api.ICall
+	}
+	return byte(pickOf(&c.dice, api.IMark, api.IMark, api.IPrint, api.IConst, api.IConst, api.Add))
 }
 
 func pickOf(d *dice, l ...int64) int64 {
@@ -126,6 +144,11 @@ func (c *coder) known(site, block, at int) []api.Dbg {
 				d.Kind, d.Arg = api.DVar, c.below(c.fun.Vars)
 			}
 			l = append(l, d)
+		}
+	}
+	for v := range c.fun.Vars {
+		if c.wanders && c.once(2) {
+			l = append(l, api.Dbg{Var: 10 + v, Kind: api.DVar, Arg: v})
 		}
 	}
 	for i, k := range c.shuffled(len(l)) {
