@@ -9,7 +9,9 @@ import (
 	"teasel/api"
 	"teasel/code"
 	"teasel/flow"
+	"teasel/fold"
 	"teasel/lower"
+	"teasel/number"
 	"teasel/samples"
 	"teasel/source"
 	"teasel/ssa"
@@ -25,6 +27,7 @@ type arguments struct {
 	Graph [][]int
 	Above []int
 	Code  api.Code
+	Plain api.Code
 }
 
 // asked are calls that are built, each with its answer and its error.
@@ -49,6 +52,8 @@ func asked() map[string]func(a arguments) (any, api.Errno) {
 		"trace.State":   func(a arguments) (any, api.Errno) { l, _, e := trace.State(a.Code, a.Input, 4, 300); return l, e },
 		"lower.Program": func(a arguments) (any, api.Errno) { l, _, e := lower.Program(a.Prog); return l, e },
 		"ssa.Build":     func(a arguments) (any, api.Errno) { l, e := ssa.Build(a.Code); return l, e },
+		"fold.Run":      func(a arguments) (any, api.Errno) { l, e := fold.Run(a.Plain); return l, e },
+		"number.Run":    func(a arguments) (any, api.Errno) { l, e := number.Run(a.Plain); return l, e },
 	}
 }
 
@@ -62,6 +67,7 @@ func handed() reflect.Value {
 		Graph: [][]int{{1, 2}, {2, 3, 1}, {1, 0}, {3, 3}, {1, 2}},
 		Above: []int{-1, 0, 1, 2},
 		Code:  samples.Code(29, 3, 0),
+		Plain: samples.Plain(7, 40),
 	}), roomy)
 }
 

@@ -226,3 +226,42 @@ func TestALoopsNodesStandInAMapThatIsGoneThrough(t *testing.T) {
 		t.Error("no map of flow is gone through")
 	}
 }
+
+// TestWaysAndReckoningsStandInMapsWhoseKeysAreCompared: those of fold by arrays, those of number by structs.
+func TestWaysAndReckoningsStandInMapsWhoseKeysAreCompared(t *testing.T) {
+	l := sources(t)
+	if !find(l, "fold", func(n ast.Node) bool {
+		return keyOf(n, "ways", func(key ast.Expr) bool {
+			a, ok := key.(*ast.ArrayType)
+			return ok && a.Len != nil
+		})
+	}) {
+		t.Error("the ways of fold stand in no map by arrays")
+	}
+	structs := map[string]bool{}
+	find(l, "number", func(n ast.Node) bool {
+		name, fields := fieldsOf(n)
+		structs[name] = len(fields) > 1
+		return false
+	})
+	if !find(l, "number", func(n ast.Node) bool {
+		return keyOf(n, "done", func(key ast.Expr) bool {
+			id, ok := key.(*ast.Ident)
+			return ok && structs[id.Name]
+		})
+	}) {
+		t.Error("the reckonings of number stand in no map by structs")
+	}
+}
+
+// keyOf tells whether a struct has a field of that name which is a map with such a key.
+func keyOf(n ast.Node, field string, is func(key ast.Expr) bool) bool {
+	_, fields := fieldsOf(n)
+	for _, f := range fields {
+		m, ok := f.Type.(*ast.MapType)
+		if ok && len(f.Names) == 1 && f.Names[0].Name == field && is(m.Key) {
+			return true
+		}
+	}
+	return false
+}

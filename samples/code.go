@@ -19,6 +19,23 @@ func Ways(seed uint64, blocks, vars int) api.Code {
 	return c.code
 }
 
+// Plain answers right code without variables, whose functions have at most so many blocks: it does few things, with few numbers, so that much of it is known ahead, or done twice.
+func Plain(seed uint64, blocks int) api.Code {
+	c := coder{dice: dice{state: seed}, blocks: blocks, few: true}
+	c.write()
+	return c.code
+}
+
+// Bits answers so many noughts and ones, an input for code that branches by what it reads.
+func Bits(seed uint64, n int) []int64 {
+	d := dice{state: seed}
+	l := make([]int64, n)
+	for i := range l {
+		l[i] = int64(d.below(2))
+	}
+	return l
+}
+
 func (c *coder) write() {
 	c.code.Funs = make([]api.Fun, 1+c.below(4))
 	c.code.Main = c.below(len(c.code.Funs))
@@ -35,12 +52,13 @@ func (c *coder) write() {
 	}
 }
 
-// coder writes code, that wanders if it is made by Ways; in fun is the function that is being written, in names the numbers of its values that are free, in made those that are made, in above which blocks dominate which.
+// coder writes code, that wanders if it is made by Ways, and does few things if it is made by Plain; in fun is the function that is being written, in names the numbers of its values that are free, in made those that are made, in above which blocks dominate which.
 type coder struct {
 	dice
 	vars    int
 	blocks  int
 	wanders bool
+	few     bool
 	code    api.Code
 	fun     *api.Fun
 	names   []int
@@ -201,7 +219,11 @@ func (c *coder) phiArgs() {
 		from := c.comesFrom(i)
 		for k := range c.fun.Blocks[i].Phis {
 			for _, p := range from {
-				c.fun.Blocks[i].Phis[k].Args = append(c.fun.Blocks[i].Phis[k].Args, c.value(p, len(c.fun.Blocks[p].Insts), 0))
+				var kind byte
+				if c.few {
+					kind = byte(pickOf(&c.dice, 0, api.IConst, api.IPhi, api.IPhi))
+				}
+				c.fun.Blocks[i].Phis[k].Args = append(c.fun.Blocks[i].Phis[k].Args, c.value(p, len(c.fun.Blocks[p].Insts), kind))
 			}
 		}
 	}

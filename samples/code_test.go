@@ -70,6 +70,57 @@ func TestWays(t *testing.T) {
 	}
 }
 
+// TestPlain: it is plain, and makes few numbers; most of what it does makes values from others, and some branches go by what isn't read.
+func TestPlain(t *testing.T) {
+	phis, knowing, ops := 0, 0, map[byte]int{}
+	for seed := range uint64(300) {
+		c := samples.Plain(seed, 30)
+		if !code.Plain(c) {
+			t.Fatalf("%d: %d of %+v", seed, code.Check(c), c)
+		}
+		for _, f := range c.Funs {
+			for _, b := range f.Blocks {
+				phis += len(b.Phis)
+				if b.End == api.Branch && (len(b.Insts) == 0 || b.Insts[len(b.Insts)-1].Dst != b.Arg) {
+					knowing++
+				}
+				for _, x := range b.Insts {
+					ops[x.Op]++
+					if x.Op == api.IConst && (x.Imm < 0 || x.Imm > 2) {
+						t.Fatal("a number of its own", seed, x.Imm)
+					}
+				}
+			}
+		}
+	}
+	for _, op := range []byte{api.Add, api.Mul, api.Sub, api.Xor, api.Lt, api.Eq, api.Neg, api.Bang, api.Div, api.Rem, api.ICopy, api.IConst, api.IMark, api.IPrint, api.IRead, api.ICall} {
+		if ops[op] < 100 {
+			t.Error("too few of the Op", op, ops[op])
+		}
+	}
+	if phis < 5000 || knowing < 1000 {
+		t.Error(phis, knowing)
+	}
+}
+
+func TestBits(t *testing.T) {
+	for seed := range uint64(200) {
+		ones := 0
+		for _, n := range samples.Bits(seed, 100) {
+			if n != 0 && n != 1 {
+				t.Fatal(n)
+			}
+			ones += int(n)
+		}
+		if ones < 20 || ones > 80 {
+			t.Error(seed, ones)
+		}
+	}
+	if len(samples.Bits(3, 0)) != 0 || !reflect.DeepEqual(samples.Bits(3, 40), samples.Bits(3, 50)[:40]) {
+		t.Error("bits don't hang on their number alone")
+	}
+}
+
 func TestCodeWithFaults(t *testing.T) {
 	wrong := 0
 	for seed := range uint64(3000) {
@@ -88,5 +139,8 @@ func TestOneNumberMakesOneCode(t *testing.T) {
 	}
 	if !reflect.DeepEqual(samples.Ways(5, 9, 3), samples.Ways(5, 9, 3)) || reflect.DeepEqual(samples.Ways(5, 9, 3), samples.Ways(6, 9, 3)) {
 		t.Error("ways don't hang on their number alone")
+	}
+	if !reflect.DeepEqual(samples.Plain(5, 9), samples.Plain(5, 9)) || reflect.DeepEqual(samples.Plain(5, 9), samples.Plain(6, 9)) {
+		t.Error("plain code doesn't hang on its number alone")
 	}
 }

@@ -20,7 +20,7 @@ func (c *coder) block(i int) {
 	for range c.below(7) {
 		b.Insts = append(b.Insts, c.inst(c.op(i), i, len(b.Insts)))
 	}
-	if b.End == api.Branch && c.wanders {
+	if b.End == api.Branch && (c.wanders || c.few && c.once(2)) {
 		read := c.inst(api.IRead, i, len(b.Insts))
 		b.Insts = append(b.Insts, read)
 		b.Arg = read.Dst
@@ -31,8 +31,11 @@ func (c *coder) block(i int) {
 
 // op answers one that may stand in a block; those of arrays mostly where there is one.
 func (c *coder) op(block int) byte {
-	if c.wanders {
+	switch {
+	case c.wanders:
 		return c.busy()
+	case c.few:
+		return c.plain()
 	}
 	switch c.below(16) {
 	case 0, 1, 2:
@@ -73,6 +76,17 @@ func (c *coder) busy() byte {
 	return byte(pickOf(&c.dice, api.IMark, api.IMark, api.IPrint, api.IConst, api.IConst, api.Add))
 }
 
+// plain answers one of a few, most of which make a value from others.
+func (c *coder) plain() byte {
+	if c.once(3) {
+		return byte(pickOf(&c.dice, api.IMark, api.IMark, api.IPrint, api.IConst, api.IConst, api.ICopy, api.Div, api.Rem))
+	}
+	if c.once(30) {
+		return byte(pickOf(&c.dice, api.IRead, api.ICall))
+	}
+	return byte(pickOf(&c.dice, api.Add, api.Add, api.Mul, api.Sub, api.Xor, api.Lt, api.Eq, api.Neg, api.Bang))
+}
+
 func pickOf(d *dice, l ...int64) int64 {
 	return l[d.below(len(l))]
 }
@@ -82,7 +96,11 @@ func (c *coder) inst(op byte, block, at int) api.Inst {
 	x := api.Inst{Op: op, Dst: -1, Site: c.below(len(c.code.Stops))}
 	switch op {
 	case api.IConst:
-		x.Imm = pickOf(&c.dice, 0, 0, 1, 1, 2, 3, 4, 7, 12, 63, 64, -1, -2, 1<<32, 1<<62, -1<<63)
+		if c.few {
+			x.Imm = pickOf(&c.dice, 0, 1, 1, 2)
+		} else {
+			x.Imm = pickOf(&c.dice, 0, 0, 1, 1, 2, 3, 4, 7, 12, 63, 64, -1, -2, 1<<32, 1<<62, -1<<63)
+		}
 	case api.IAlloc:
 		x.Imm = pickOf(&c.dice, 1, 2, 3, 4, 8, 256)
 	case api.IGet, api.ISet:

@@ -28,16 +28,6 @@ func TestCodeByChance(t *testing.T) {
 	}
 }
 
-// bits are noughts and ones that one can't foretell: of a number always the same ones.
-func bits(seed uint64, n int) []int64 {
-	l := make([]int64, n)
-	for i := range l {
-		seed = seed*6364136223846793005 + 1442695040888963407
-		l[i] = int64(seed >> 63)
-	}
-	return l
-}
-
 // TestWaysByChance: code of many blocks and variables, led along several ways.
 func TestWaysByChance(t *testing.T) {
 	had := map[byte]int{}
@@ -45,7 +35,7 @@ func TestWaysByChance(t *testing.T) {
 		c := samples.Ways(seed, 1+int(seed%45), int(seed%9))
 		d := mustBuild(t, c)
 		for way := range uint64(4) {
-			had[holdRuns(t, c, d, bits(seed*4+way, int(seed%60)), 400)]++
+			had[holdRuns(t, c, d, samples.Bits(seed*4+way, int(seed%60)), 400)]++
 		}
 	}
 	if had[api.Halt] < 300 || had[api.TrapIn] < 300 || had[api.StopFuel] < 50 {
@@ -178,7 +168,7 @@ func FuzzBuild(f *testing.F) {
 	}
 	f.Fuzz(func(t *testing.T, seed uint64, blocks, vars int, way uint64, n int) {
 		blocks, vars = max(1, blocks%70), max(0, vars%12)
-		hold(t, samples.Ways(seed, blocks, vars), bits(way, max(0, n%80)), 500)
-		hold(t, samples.Code(seed, vars, 0), bits(way, max(0, n%80)), 500)
+		hold(t, samples.Ways(seed, blocks, vars), samples.Bits(way, max(0, n%80)), 500)
+		hold(t, samples.Code(seed, vars, 0), samples.Bits(way, max(0, n%80)), 500)
 	})
 }

@@ -104,7 +104,7 @@ func TestWithinTheBound(t *testing.T) {
 			t.Error("only so many phis:", n)
 		}
 		for way := range uint64(4) {
-			hold(t, c, bits(way, 50), 400)
+			hold(t, c, samples.Bits(way, 50), 400)
 		}
 	}
 	var some, many []api.Fun
@@ -129,7 +129,7 @@ func TestWithinTheBoundByChance(t *testing.T) {
 	for seed := range uint64(60) {
 		if c := samples.Ways(seed, 300, 60); within(c) {
 			all++
-			hold(t, c, bits(seed, 300), 3000)
+			hold(t, c, samples.Bits(seed, 300), 3000)
 		}
 	}
 	if all < 10 {
@@ -158,7 +158,7 @@ func TestErrLimit(t *testing.T) {
 		if n := code.Size(mustBuild(t, most)); n != api.MaxCode {
 			t.Error("not as many as there may be", n)
 		}
-		hold(t, most, bits(5, 40), 50000)
+		hold(t, most, samples.Bits(5, 40), 50000)
 		for _, more := range []int{1, 2, 1000} {
 			wantError(t, padded(c, api.MaxCode-size+more), api.ErrLimit)
 		}
