@@ -7,7 +7,7 @@ import (
 	"teasel/code"
 )
 
-// walk follows the ways of a function on which a run may go, with what is known of its values on them. It begins by taking each value to be the first number that it is found to be, and becomes less sure alone, so that what only hangs on itself in a loop is known, too.
+// walk follows the ways of a function on which a run may go, with what is known of its values on them. A value is taken to be the first number that it is found to be, till it is found to be another one, too: so what hangs on itself in a loop alone is known as well.
 type walk struct {
 	api.Fun
 	facts
