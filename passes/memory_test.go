@@ -11,9 +11,10 @@ import (
 
 // TestWhatIsHandedInIsNotChanged: right code and wrong code.
 func TestWhatIsHandedInIsNotChanged(t *testing.T) {
+	t.Parallel()
 	for _, p := range passes() {
 		for seed := range uint64(500) {
-			for _, c := range []api.Code{samples.Code(seed, int(seed%2), int(seed%3)), samples.Plain(seed, 20)} {
+			for _, c := range []api.Code{samples.Code(seed, int(seed%2), int(seed%3)), samples.Plain(seed, 20), samples.Calls(seed, 5)} {
 				before := code.Copy(c)
 				p.run(c)
 				if !reflect.DeepEqual(c, before) {
@@ -47,9 +48,13 @@ func wipe(c api.Code) {
 
 // TestAnswersAreNewMemory: whoever writes over what was handed in, or over an earlier answer, changes no other.
 func TestAnswersAreNewMemory(t *testing.T) {
+	t.Parallel()
 	for _, p := range passes() {
 		for seed := range uint64(300) {
 			c := samples.Plain(seed, 12)
+			if seed%2 == 1 {
+				c = samples.Calls(seed, 6)
+			}
 			first, again := p.mustRun(t, c), p.mustRun(t, c)
 			want := code.Copy(first)
 			wipe(again)
@@ -86,11 +91,14 @@ func lists(c api.Code) map[any]int {
 
 // TestNoListStandsTwice: in the spare room of another one neither.
 func TestNoListStandsTwice(t *testing.T) {
+	t.Parallel()
 	for _, p := range passes() {
 		for seed := range uint64(300) {
-			for _, n := range lists(p.mustRun(t, samples.Plain(seed, 12))) {
-				if n > 1 {
-					t.Fatal(p.name, "gives out two lists that share memory", seed)
+			for _, c := range []api.Code{samples.Plain(seed, 12), samples.Calls(seed, 6)} {
+				for _, n := range lists(p.mustRun(t, c)) {
+					if n > 1 {
+						t.Fatal(p.name, "gives out two lists that share memory", seed)
+					}
 				}
 			}
 		}
@@ -98,9 +106,13 @@ func TestNoListStandsTwice(t *testing.T) {
 }
 
 func TestTheSameAnswerEachTime(t *testing.T) {
+	t.Parallel()
 	for _, p := range passes() {
 		for seed := range uint64(300) {
 			c := samples.Plain(seed, 30)
+			if seed%2 == 1 {
+				c = samples.Calls(seed, 6)
+			}
 			a := p.mustRun(t, c)
 			p.mustRun(t, samples.Plain(seed+1, 9))
 			if b := p.mustRun(t, c); !reflect.DeepEqual(a, b) {

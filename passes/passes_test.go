@@ -7,7 +7,9 @@ import (
 
 	"teasel/alike"
 	"teasel/api"
+	"teasel/calls"
 	"teasel/code"
+	"teasel/dead"
 	"teasel/fold"
 	"teasel/lower"
 	"teasel/number"
@@ -28,6 +30,8 @@ func passes() []pass {
 	return []pass{
 		{"fold", fold.Run, true},
 		{"number", number.Run, true},
+		{"dead", dead.Run, false},
+		{"calls", calls.Run, true},
 	}
 }
 
@@ -83,6 +87,7 @@ func build(t *testing.T, c api.Code) api.Code {
 
 // TestCodeByChance: each way in which a run ends, with the state at each mark.
 func TestCodeByChance(t *testing.T) {
+	t.Parallel()
 	for _, p := range passes() {
 		had := map[byte]int{}
 		for seed := range uint64(1600) {
@@ -104,6 +109,7 @@ func TestCodeByChance(t *testing.T) {
 
 // TestWaysByChance: code of many blocks, that had variables, led along several ways.
 func TestWaysByChance(t *testing.T) {
+	t.Parallel()
 	for _, p := range passes() {
 		had := map[byte]int{}
 		for seed := range uint64(120) {
@@ -121,6 +127,7 @@ func TestWaysByChance(t *testing.T) {
 
 // TestPlainCodeByChance: of few things and few numbers, so that there is much to be done.
 func TestPlainCodeByChance(t *testing.T) {
+	t.Parallel()
 	for _, p := range passes() {
 		had := map[byte]int{}
 		for seed := range uint64(700) {
@@ -136,8 +143,27 @@ func TestPlainCodeByChance(t *testing.T) {
 	}
 }
 
+// TestCallsByChance: code of functions that call small ones.
+func TestCallsByChance(t *testing.T) {
+	t.Parallel()
+	for _, p := range passes() {
+		had := map[byte]int{}
+		for seed := range uint64(700) {
+			c := samples.Calls(seed, 1+int(seed%9))
+			d := p.mustRun(t, c)
+			for way := range uint64(3) {
+				had[holdRuns(t, p.name, c, d, samples.Bits(seed*4+way, int(seed%40)), 300, p.all)]++
+			}
+		}
+		if had[api.Halt] < 300 || had[api.TrapZero] < 100 || had[api.TrapIn] < 30 || had[api.StopFuel] < 100 {
+			t.Error(p.name, had)
+		}
+	}
+}
+
 // TestProgramsByChance: as they are lowered.
 func TestProgramsByChance(t *testing.T) {
+	t.Parallel()
 	for _, p := range passes() {
 		for seed := range uint64(300) {
 			c := program(t, samples.Text(seed, 0))
@@ -148,6 +174,7 @@ func TestProgramsByChance(t *testing.T) {
 
 // TestRunsThatEndOtherwise: each trap, and what stops runs.
 func TestRunsThatEndOtherwise(t *testing.T) {
+	t.Parallel()
 	for text, end := range map[string]byte{
 		"fn main(): int { let x: int = 1; let y: int = x - 1; print x; print x / y; return 0; }":                                  api.TrapZero,
 		"fn main(): int { let x: int = read(); print 12 % (x - 4); return 0; }":                                                   api.TrapZero,
@@ -170,15 +197,19 @@ func TestRunsThatEndOtherwise(t *testing.T) {
 
 // TestPassesInTurn: several, one behind the other, in any order.
 func TestPassesInTurn(t *testing.T) {
+	t.Parallel()
 	l := passes()
 	for seed := range uint64(600) {
 		c := samples.Plain(seed, 1+int(seed%30))
-		if seed%3 == 0 {
+		switch seed % 3 {
+		case 0:
 			c = build(t, samples.Ways(seed, 1+int(seed%30), 5))
+		case 1:
+			c = samples.Calls(seed, 1+int(seed%9))
 		}
 		d, name, all := c, "", true
 		for k := range 5 {
-			p := l[samples.Bits(seed, 5)[k]*int64(len(l)-1)]
+			p := l[int(seed>>(2*k))%len(l)]
 			d = p.mustRun(t, d)
 			name += p.name + " "
 			all = all && p.all
@@ -196,7 +227,7 @@ func FuzzPasses(f *testing.F) {
 	f.Fuzz(func(t *testing.T, seed uint64, blocks int, way uint64, n int) {
 		blocks = max(1, blocks%60)
 		input := samples.Bits(way, max(0, n%80))
-		for _, c := range []api.Code{samples.Plain(seed, blocks), samples.Code(seed, 0, 0), build(t, samples.Ways(seed, blocks, blocks%12))} {
+		for _, c := range []api.Code{samples.Plain(seed, blocks), samples.Code(seed, 0, 0), build(t, samples.Ways(seed, blocks, blocks%12)), samples.Calls(seed, blocks)} {
 			for _, p := range passes() {
 				holdRuns(t, p.name, c, p.mustRun(t, c), input, 400, p.all)
 			}

@@ -68,6 +68,7 @@ func wrong() map[string]api.Code {
 
 // TestCodeThatIsRefused: what isn't right, too long code, too, and what is right but not plain.
 func TestCodeThatIsRefused(t *testing.T) {
+	t.Parallel()
 	for name, c := range withVariables() {
 		if code.Check(c) != api.OK {
 			t.Error(name, "isn't right")
@@ -88,6 +89,7 @@ func TestCodeThatIsRefused(t *testing.T) {
 
 // TestFaultsByChance: of code that isn't plain nothing is made, of other code something is.
 func TestFaultsByChance(t *testing.T) {
+	t.Parallel()
 	for _, p := range passes() {
 		done := 0
 		for seed := range uint64(2000) {
@@ -107,6 +109,7 @@ func TestFaultsByChance(t *testing.T) {
 
 // TestInstructionsOfAnyKind: any Op, with any number of Args, and any Imm.
 func TestInstructionsOfAnyKind(t *testing.T) {
+	t.Parallel()
 	for op := range 256 {
 		for dst := -2; dst < 3; dst++ {
 			for args := range 4 {
@@ -130,6 +133,7 @@ func TestInstructionsOfAnyKind(t *testing.T) {
 
 // TestMains: any function without parameters may be it; those that nobody calls stay.
 func TestMains(t *testing.T) {
+	t.Parallel()
 	for _, p := range passes() {
 		c := Program(Fun(1, Answers(0, Param(0, 0))), Fun(0, Answers(2, Number(0, 1), Number(1, 2), Inst(api.Add, 2, 0, 1), Show(2))), Fun(0, Ends(Number(0, 4), Call(2, 0, 0), Show(2), Call(-1, 1))))
 		for _, c.Main = range []int{2, 1} {

@@ -7,7 +7,9 @@ import (
 	"testing"
 
 	"teasel/api"
+	"teasel/calls"
 	"teasel/code"
+	"teasel/dead"
 	"teasel/flow"
 	"teasel/fold"
 	"teasel/lower"
@@ -28,6 +30,7 @@ type arguments struct {
 	Above []int
 	Code  api.Code
 	Plain api.Code
+	Calls api.Code
 }
 
 // asked are calls that are built, each with its answer and its error.
@@ -54,6 +57,8 @@ func asked() map[string]func(a arguments) (any, api.Errno) {
 		"ssa.Build":     func(a arguments) (any, api.Errno) { l, e := ssa.Build(a.Code); return l, e },
 		"fold.Run":      func(a arguments) (any, api.Errno) { l, e := fold.Run(a.Plain); return l, e },
 		"number.Run":    func(a arguments) (any, api.Errno) { l, e := number.Run(a.Plain); return l, e },
+		"dead.Run":      func(a arguments) (any, api.Errno) { l, e := dead.Run(a.Plain); return l, e },
+		"calls.Run":     func(a arguments) (any, api.Errno) { l, e := calls.Run(a.Calls); return l, e },
 	}
 }
 
@@ -68,6 +73,7 @@ func handed() reflect.Value {
 		Above: []int{-1, 0, 1, 2},
 		Code:  samples.Code(29, 3, 0),
 		Plain: samples.Plain(7, 40),
+		Calls: samples.Calls(8, 5),
 	}), roomy)
 }
 

@@ -26,6 +26,13 @@ func Plain(seed uint64, blocks int) api.Code {
 	return c.code
 }
 
+// Calls answers right code without variables, whose functions have at most so many blocks: some of them are small and call none, and these are called often.
+func Calls(seed uint64, blocks int) api.Code {
+	c := coder{dice: dice{state: seed}, blocks: blocks, calls: true}
+	c.write()
+	return c.code
+}
+
 // Bits answers so many noughts and ones, an input for code that branches by what it reads.
 func Bits(seed uint64, n int) []int64 {
 	d := dice{state: seed}
@@ -39,6 +46,10 @@ func Bits(seed uint64, n int) []int64 {
 func (c *coder) write() {
 	c.code.Funs = make([]api.Fun, 1+c.below(4))
 	c.code.Main = c.below(len(c.code.Funs))
+	if c.calls {
+		c.small = len(c.code.Funs)
+		c.code.Funs = append(c.code.Funs, make([]api.Fun, 1+c.below(3))...)
+	}
 	for range 1 + c.below(6) {
 		c.code.Stops = append(c.code.Stops, c.stop())
 	}
@@ -48,17 +59,21 @@ func (c *coder) write() {
 		}
 	}
 	for i := range c.code.Funs {
+		c.leaf = c.calls && i >= c.small
 		c.function(&c.code.Funs[i])
 	}
 }
 
-// coder writes code, that wanders if it is made by Ways, and does few things if it is made by Plain; in fun is the function that is being written, in names the numbers of its values that are free, in made those that are made, in above which blocks dominate which.
+// coder writes code, that wanders if it is made by Ways, does few things if it is made by Plain, and calls small ones, from the function number small on, if it is made by Calls; in fun is the function that is being written (a leaf calls none), in names the numbers of its values that are free, in made those that are made, in above which blocks dominate which.
 type coder struct {
 	dice
 	vars    int
 	blocks  int
 	wanders bool
 	few     bool
+	calls   bool
+	small   int
+	leaf    bool
 	code    api.Code
 	fun     *api.Fun
 	names   []int
@@ -85,7 +100,11 @@ func (c *coder) stop() []api.Spot {
 func (c *coder) function(f *api.Fun) {
 	c.fun, c.made = f, nil
 	f.Vars = c.below(c.vars + 1)
-	f.Blocks = make([]api.Block, 1+c.below(c.blocks))
+	most := c.blocks
+	if c.leaf {
+		most = min(most, 4)
+	}
+	f.Blocks = make([]api.Block, 1+c.below(most))
 	f.Vals = 10*len(f.Blocks) + c.below(3)
 	c.names = c.shuffled(f.Vals)
 	c.ways()

@@ -103,6 +103,54 @@ func TestPlain(t *testing.T) {
 	}
 }
 
+// TestCalls: it is plain; small functions of several blocks that call none are called often, and parameters are asked for behind calls, too.
+func TestCalls(t *testing.T) {
+	all, small, several, late := 0, 0, 0, 0
+	for seed := range uint64(500) {
+		c := samples.Calls(seed, 8)
+		if !code.Plain(c) {
+			t.Fatalf("%d: %d of %+v", seed, code.Check(c), c)
+		}
+		for _, f := range c.Funs {
+			for _, b := range f.Blocks {
+				called := false
+				for _, x := range b.Insts {
+					if x.Op == api.IParam && called {
+						late++
+					}
+					if x.Op != api.ICall {
+						continue
+					}
+					called = true
+					all++
+					g := c.Funs[x.Imm]
+					if n := code.Size(api.Code{Funs: []api.Fun{g}}); n > 16 || callsAny(g) {
+						continue
+					}
+					small++
+					if len(g.Blocks) > 1 {
+						several++
+					}
+				}
+			}
+		}
+	}
+	if all < 4000 || small < 3000 || several < 1500 || late < 50 {
+		t.Error(all, small, several, late)
+	}
+}
+
+func callsAny(f api.Fun) bool {
+	for _, b := range f.Blocks {
+		for _, x := range b.Insts {
+			if x.Op == api.ICall {
+				return true
+			}
+		}
+	}
+	return false
+}
+
 func TestBits(t *testing.T) {
 	for seed := range uint64(200) {
 		ones := 0
@@ -142,5 +190,8 @@ func TestOneNumberMakesOneCode(t *testing.T) {
 	}
 	if !reflect.DeepEqual(samples.Plain(5, 9), samples.Plain(5, 9)) || reflect.DeepEqual(samples.Plain(5, 9), samples.Plain(6, 9)) {
 		t.Error("plain code doesn't hang on its number alone")
+	}
+	if !reflect.DeepEqual(samples.Calls(5, 9), samples.Calls(5, 9)) || reflect.DeepEqual(samples.Calls(5, 9), samples.Calls(6, 9)) {
+		t.Error("calls don't hang on their number alone")
 	}
 }

@@ -20,7 +20,7 @@ func (c *coder) block(i int) {
 	for range c.below(7) {
 		b.Insts = append(b.Insts, c.inst(c.op(i), i, len(b.Insts)))
 	}
-	if b.End == api.Branch && (c.wanders || c.few && c.once(2)) {
+	if b.End == api.Branch && (c.wanders || (c.few || c.calls) && c.once(2)) {
 		read := c.inst(api.IRead, i, len(b.Insts))
 		b.Insts = append(b.Insts, read)
 		b.Arg = read.Dst
@@ -36,7 +36,28 @@ func (c *coder) op(block int) byte {
 		return c.busy()
 	case c.few:
 		return c.plain()
+	case c.calls:
+		return c.calling(block)
 	}
+	return c.any(block)
+}
+
+// calling answers calls more often than anything else; in a leaf none. Parameters are asked for behind calls, too.
+func (c *coder) calling(block int) byte {
+	op := c.any(block)
+	switch {
+	case block == 0 && c.fun.Params > 0 && c.once(6):
+		return api.IParam
+	case c.leaf && op == api.ICall:
+		return api.Add
+	case !c.leaf && c.once(4):
+		return api.ICall
+	}
+	return op
+}
+
+// any answers one of all there are.
+func (c *coder) any(block int) byte {
 	switch c.below(16) {
 	case 0, 1, 2:
 		return api.IMark
@@ -106,7 +127,11 @@ func (c *coder) inst(op byte, block, at int) api.Inst {
 	case api.IGet, api.ISet:
 		x.Imm = int64(c.below(c.fun.Vars))
 	case api.ICall:
-		x.Imm = int64(c.below(len(c.code.Funs)))
+		x.Imm = int64(c.called())
+	case api.IParam:
+		if c.calls {
+			x.Imm = int64(c.below(c.fun.Params))
+		}
 	}
 	for _, kind := range c.kinds(x) {
 		x.Args = append(x.Args, c.value(block, at, kind))
@@ -124,6 +149,15 @@ func (c *coder) inst(op byte, block, at int) api.Inst {
 	}
 	x.Dst = c.make(op, block, at)
 	return x
+}
+
+// called answers a function, a small one mostly, where there are such.
+func (c *coder) called() int {
+	first := 0
+	if c.calls && !c.once(8) {
+		first = c.small
+	}
+	return first + c.below(len(c.code.Funs)-first)
 }
 
 // kinds answers for each Arg of an instruction by what it is best made; 0: by anything.
