@@ -1,4 +1,4 @@
-// Package alike holds runs of code that a pass made against runs of the code that was handed in to it, for tests: by P10.2, which is so of all passes.
+// Package alike holds runs of code that a pass made against runs of the code that was handed in to it, for tests: by P10.2, which is so of all passes. It also holds how loops are entered.
 package alike
 
 import (
@@ -7,6 +7,7 @@ import (
 
 	"teasel/api"
 	"teasel/code"
+	"teasel/flow"
 	"teasel/trace"
 )
 
@@ -94,6 +95,28 @@ func states(want, got []api.Frame, all bool) string {
 		}
 		if all && len(g.Vars) != len(f.Vars) {
 			return "the frame " + strconv.Itoa(i) + " shows too few variables"
+		}
+	}
+	return ""
+}
+
+// Entered tells how a loop of a function isn't entered from one block outside it, which goes on to its head alone; "" if each one is.
+func Entered(f api.Fun) string {
+	g := code.Graph(f)
+	loops, _ := flow.Loops(g)
+	from, _ := flow.Into(g)
+	for _, l := range loops {
+		outside := 0
+		for _, head := range l.Nodes {
+			for _, block := range from[head] {
+				if _, in := slices.BinarySearch(l.Nodes, block); in {
+					continue
+				}
+				outside++
+				if head != l.Head || outside > 1 || len(g[block]) != 1 {
+					return "the loop of the block " + strconv.Itoa(l.Head) + " is entered from the block " + strconv.Itoa(block)
+				}
+			}
 		}
 	}
 	return ""

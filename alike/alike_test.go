@@ -99,3 +99,29 @@ func TestCodeIsLikeItself(t *testing.T) {
 		}
 	}
 }
+
+// TestEntered: loops entered from one block that goes on to the head alone, from one that branches, and from two; one in another one; and ways round that are no loop.
+func TestEntered(t *testing.T) {
+	read := Read(0)
+	for name, x := range map[string]struct {
+		blocks []api.Block
+		wrong  bool
+	}{
+		"no loop":               {[]api.Block{Branch(0, 1, 2, read), Goes(3), Goes(3), Ends()}, false},
+		"from one":              {[]api.Block{Goes(1, read), Branch(0, 1, 2), Ends()}, false},
+		"from one that chooses": {[]api.Block{Branch(0, 1, 2, read), Branch(0, 1, 2), Ends()}, true},
+		"from two":              {[]api.Block{Branch(0, 1, 2, read), Goes(3), Goes(3), Branch(0, 3, 4), Ends()}, true},
+		"the outer one, so":     {[]api.Block{Branch(0, 1, 5, read), Goes(2), Branch(0, 2, 3), Branch(0, 1, 4), Ends(), Ends()}, true},
+		"the inner one, so":     {[]api.Block{Goes(1, read), Branch(0, 2, 4), Branch(0, 2, 3), Goes(1), Ends()}, true},
+		"both right":            {[]api.Block{Goes(1, read), Goes(2), Branch(0, 2, 3), Branch(0, 1, 4), Ends()}, false},
+		"entered in the middle": {[]api.Block{Branch(0, 1, 2, read), Goes(2), Branch(0, 1, 3), Ends()}, false},
+	} {
+		c := Main(x.blocks...)
+		if !code.Plain(c) {
+			t.Fatal(name)
+		}
+		if s := alike.Entered(c.Funs[0]); (s != "") != x.wrong {
+			t.Errorf("%s: %q", name, s)
+		}
+	}
+}

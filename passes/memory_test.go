@@ -14,7 +14,7 @@ func TestWhatIsHandedInIsNotChanged(t *testing.T) {
 	t.Parallel()
 	for _, p := range passes() {
 		for seed := range uint64(500) {
-			for _, c := range []api.Code{samples.Code(seed, int(seed%2), int(seed%3)), samples.Plain(seed, 20), samples.Calls(seed, 5)} {
+			for _, c := range []api.Code{samples.Code(seed, int(seed%2), int(seed%3)), samples.Plain(seed, 20), samples.Calls(seed, 5), samples.Loops(seed, 15)} {
 				before := code.Copy(c)
 				p.run(c)
 				if !reflect.DeepEqual(c, before) {
@@ -52,8 +52,11 @@ func TestAnswersAreNewMemory(t *testing.T) {
 	for _, p := range passes() {
 		for seed := range uint64(300) {
 			c := samples.Plain(seed, 12)
-			if seed%2 == 1 {
+			switch seed % 3 {
+			case 1:
 				c = samples.Calls(seed, 6)
+			case 2:
+				c = samples.Loops(seed, 15)
 			}
 			first, again := p.mustRun(t, c), p.mustRun(t, c)
 			want := code.Copy(first)
@@ -94,7 +97,7 @@ func TestNoListStandsTwice(t *testing.T) {
 	t.Parallel()
 	for _, p := range passes() {
 		for seed := range uint64(300) {
-			for _, c := range []api.Code{samples.Plain(seed, 12), samples.Calls(seed, 6)} {
+			for _, c := range []api.Code{samples.Plain(seed, 12), samples.Calls(seed, 6), samples.Loops(seed, 15)} {
 				for _, n := range lists(p.mustRun(t, c)) {
 					if n > 1 {
 						t.Fatal(p.name, "gives out two lists that share memory", seed)
@@ -110,8 +113,11 @@ func TestTheSameAnswerEachTime(t *testing.T) {
 	for _, p := range passes() {
 		for seed := range uint64(300) {
 			c := samples.Plain(seed, 30)
-			if seed%2 == 1 {
+			switch seed % 3 {
+			case 1:
 				c = samples.Calls(seed, 6)
+			case 2:
+				c = samples.Loops(seed, 15)
 			}
 			a := p.mustRun(t, c)
 			p.mustRun(t, samples.Plain(seed+1, 9))

@@ -12,7 +12,9 @@ import (
 	"teasel/dead"
 	"teasel/fold"
 	"teasel/lower"
+	"teasel/motion"
 	"teasel/number"
+	"teasel/reduce"
 	"teasel/samples"
 	"teasel/ssa"
 	"teasel/tree"
@@ -32,6 +34,8 @@ func passes() []pass {
 		{"number", number.Run, true},
 		{"dead", dead.Run, false},
 		{"calls", calls.Run, true},
+		{"motion", motion.Run, true},
+		{"reduce", reduce.Run, true},
 	}
 }
 
@@ -161,6 +165,24 @@ func TestCallsByChance(t *testing.T) {
 	}
 }
 
+// TestLoopsByChance: code that turns round and counts.
+func TestLoopsByChance(t *testing.T) {
+	t.Parallel()
+	for _, p := range passes() {
+		had := map[byte]int{}
+		for seed := range uint64(500) {
+			c := samples.Loops(seed, 1+int(seed%25))
+			d := p.mustRun(t, c)
+			for way := range uint64(3) {
+				had[holdRuns(t, p.name, c, d, samples.Bits(seed*4+way, int(seed%40)), 300, p.all)]++
+			}
+		}
+		if had[api.Halt] < 500 || had[api.TrapZero] < 10 || had[api.TrapIn] < 50 || had[api.StopFuel] < 100 {
+			t.Error(p.name, had)
+		}
+	}
+}
+
 // TestProgramsByChance: as they are lowered.
 func TestProgramsByChance(t *testing.T) {
 	t.Parallel()
@@ -201,11 +223,13 @@ func TestPassesInTurn(t *testing.T) {
 	l := passes()
 	for seed := range uint64(600) {
 		c := samples.Plain(seed, 1+int(seed%30))
-		switch seed % 3 {
+		switch seed % 4 {
 		case 0:
 			c = build(t, samples.Ways(seed, 1+int(seed%30), 5))
 		case 1:
 			c = samples.Calls(seed, 1+int(seed%9))
+		case 2:
+			c = samples.Loops(seed, 1+int(seed%20))
 		}
 		d, name, all := c, "", true
 		for k := range 5 {
@@ -227,7 +251,7 @@ func FuzzPasses(f *testing.F) {
 	f.Fuzz(func(t *testing.T, seed uint64, blocks int, way uint64, n int) {
 		blocks = max(1, blocks%60)
 		input := samples.Bits(way, max(0, n%80))
-		for _, c := range []api.Code{samples.Plain(seed, blocks), samples.Code(seed, 0, 0), build(t, samples.Ways(seed, blocks, blocks%12)), samples.Calls(seed, blocks)} {
+		for _, c := range []api.Code{samples.Plain(seed, blocks), samples.Code(seed, 0, 0), build(t, samples.Ways(seed, blocks, blocks%12)), samples.Calls(seed, blocks), samples.Loops(seed, blocks)} {
 			for _, p := range passes() {
 				holdRuns(t, p.name, c, p.mustRun(t, c), input, 400, p.all)
 			}

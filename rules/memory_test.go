@@ -13,7 +13,9 @@ import (
 	"teasel/flow"
 	"teasel/fold"
 	"teasel/lower"
+	"teasel/motion"
 	"teasel/number"
+	"teasel/reduce"
 	"teasel/samples"
 	"teasel/source"
 	"teasel/ssa"
@@ -31,6 +33,7 @@ type arguments struct {
 	Code  api.Code
 	Plain api.Code
 	Calls api.Code
+	Loops api.Code
 }
 
 // asked are calls that are built, each with its answer and its error.
@@ -59,6 +62,8 @@ func asked() map[string]func(a arguments) (any, api.Errno) {
 		"number.Run":    func(a arguments) (any, api.Errno) { l, e := number.Run(a.Plain); return l, e },
 		"dead.Run":      func(a arguments) (any, api.Errno) { l, e := dead.Run(a.Plain); return l, e },
 		"calls.Run":     func(a arguments) (any, api.Errno) { l, e := calls.Run(a.Calls); return l, e },
+		"motion.Run":    func(a arguments) (any, api.Errno) { l, e := motion.Run(a.Loops); return l, e },
+		"reduce.Run":    func(a arguments) (any, api.Errno) { l, e := reduce.Run(a.Loops); return l, e },
 	}
 }
 
@@ -74,6 +79,7 @@ func handed() reflect.Value {
 		Code:  samples.Code(29, 3, 0),
 		Plain: samples.Plain(7, 40),
 		Calls: samples.Calls(8, 5),
+		Loops: samples.Loops(8, 20),
 	}), roomy)
 }
 

@@ -33,6 +33,13 @@ func Calls(seed uint64, blocks int) api.Code {
 	return c.code
 }
 
+// Loops answers right code without variables, whose functions have at most so many blocks: loops in loops, with phis that count in them, and products of these.
+func Loops(seed uint64, blocks int) api.Code {
+	c := coder{dice: dice{state: seed}, blocks: blocks, turns: true}
+	c.write()
+	return c.code
+}
+
 // Bits answers so many noughts and ones, an input for code that branches by what it reads.
 func Bits(seed uint64, n int) []int64 {
 	d := dice{state: seed}
@@ -64,7 +71,7 @@ func (c *coder) write() {
 	}
 }
 
-// coder writes code, that wanders if it is made by Ways, does few things if it is made by Plain, and calls small ones, from the function number small on, if it is made by Calls; in fun is the function that is being written (a leaf calls none), in names the numbers of its values that are free, in made those that are made, in above which blocks dominate which.
+// coder writes code, that wanders if it is made by Ways, does few things if it is made by Plain, calls small ones, from the function number small on, if it is made by Calls, and turns round if it is made by Loops; in fun is the function that is being written (a leaf calls none), in names the numbers of its values that are free, in made those that are made, in above which blocks dominate which.
 type coder struct {
 	dice
 	vars    int
@@ -72,6 +79,7 @@ type coder struct {
 	wanders bool
 	few     bool
 	calls   bool
+	turns   bool
 	small   int
 	leaf    bool
 	code    api.Code
@@ -106,6 +114,9 @@ func (c *coder) function(f *api.Fun) {
 	}
 	f.Blocks = make([]api.Block, 1+c.below(most))
 	f.Vals = 10*len(f.Blocks) + c.below(3)
+	if c.turns {
+		f.Vals += 6 * len(f.Blocks)
+	}
 	c.names = c.shuffled(f.Vals)
 	c.ways()
 	c.dominators()
@@ -130,9 +141,11 @@ func (c *coder) shuffled(n int) []int {
 func (c *coder) ways() {
 	blocks := c.fun.Blocks
 	var free []int // the blocks that have a way left, as often as they have
+	before := make([]int, len(blocks))
 	for i := range blocks {
 		if i > 0 {
 			k := c.below(len(free))
+			before[i] = free[k]
 			c.goOn(&blocks[free[k]], i)
 			free = append(free[:k], free[k+1:]...)
 		}
@@ -140,7 +153,7 @@ func (c *coder) ways() {
 	}
 	for i := range blocks {
 		b := &blocks[i]
-		if to := 1 + c.below(len(blocks)); b.End != api.Branch && to < len(blocks) && c.once(2) && (b.End != api.GoTo || b.To != to) {
+		if to := c.onward(i, before); b.End != api.Branch && to < len(blocks) && c.once(2) && (b.End != api.GoTo || b.To != to) {
 			c.goOn(b, to)
 		}
 		switch {
@@ -150,6 +163,17 @@ func (c *coder) ways() {
 			b.To, b.Else = b.Else, b.To
 		}
 	}
+}
+
+// onward answers a block to which one may go on, if there is such a block; where code turns round, mostly one from which there was a way to it.
+func (c *coder) onward(i int, before []int) int {
+	if !c.turns || c.once(4) {
+		return 1 + c.below(len(c.fun.Blocks))
+	}
+	for range c.below(4) {
+		i = before[i]
+	}
+	return max(i, 1)
 }
 
 func (c *coder) goOn(b *api.Block, to int) {
@@ -238,12 +262,30 @@ func (c *coder) phiArgs() {
 		from := c.comesFrom(i)
 		for k := range c.fun.Blocks[i].Phis {
 			for _, p := range from {
-				var kind byte
-				if c.few {
-					kind = byte(pickOf(&c.dice, 0, api.IConst, api.IPhi, api.IPhi))
-				}
-				c.fun.Blocks[i].Phis[k].Args = append(c.fun.Blocks[i].Phis[k].Args, c.value(p, len(c.fun.Blocks[p].Insts), kind))
+				x := &c.fun.Blocks[i].Phis[k]
+				x.Args = append(x.Args, c.phiArg(x.Dst, p))
 			}
 		}
 	}
+}
+
+// phiArg answers a value for a phi that comes from a block; where code turns round, mostly one that is made from it.
+func (c *coder) phiArg(phi, from int) int {
+	end := len(c.fun.Blocks[from].Insts)
+	var kind byte
+	switch {
+	case c.few:
+		kind = byte(pickOf(&c.dice, 0, api.IConst, api.IPhi, api.IPhi))
+	case c.turns:
+		for _, m := range c.made {
+			if m.op != api.Add && m.op != api.Sub || !c.above[m.block][from] || c.once(8) {
+				continue
+			}
+			if x := c.fun.Blocks[m.block].Insts[m.at]; x.Args[0] == phi || x.Args[1] == phi {
+				return m.value
+			}
+		}
+		kind = byte(pickOf(&c.dice, 0, api.IConst, api.IConst, api.IPhi, api.IRead))
+	}
+	return c.value(from, end, kind)
 }

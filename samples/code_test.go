@@ -6,6 +6,7 @@ import (
 
 	"teasel/api"
 	"teasel/code"
+	"teasel/flow"
 	"teasel/samples"
 )
 
@@ -151,6 +152,53 @@ func callsAny(f api.Fun) bool {
 	return false
 }
 
+// TestLoops: it is plain; ways lead back often, to heads with phis, many of which go on by a number, and are multiplied or shifted by one.
+func TestLoops(t *testing.T) {
+	loops, several, steps, products := 0, 0, 0, 0
+	for seed := range uint64(500) {
+		c := samples.Loops(seed, 20)
+		if !code.Plain(c) {
+			t.Fatalf("%d: %d of %+v", seed, code.Check(c), c)
+		}
+		for _, f := range c.Funs {
+			l, _ := flow.Loops(code.Graph(f))
+			from, _ := flow.Into(code.Graph(f))
+			loops += len(l)
+			heads := map[int]bool{}
+			for _, x := range l {
+				if len(from[x.Head]) > 2 {
+					several++
+				}
+				for _, p := range f.Blocks[x.Head].Phis {
+					heads[p.Dst] = true
+				}
+			}
+			numbers := map[int]bool{}
+			for _, b := range f.Blocks {
+				for _, x := range b.Insts {
+					numbers[x.Dst] = x.Op == api.IConst
+				}
+			}
+			for _, b := range f.Blocks {
+				for _, x := range b.Insts {
+					if len(x.Args) != 2 || !heads[x.Args[0]] || !numbers[x.Args[1]] {
+						continue
+					}
+					switch x.Op {
+					case api.Add, api.Sub:
+						steps++
+					case api.Mul, api.Shl:
+						products++
+					}
+				}
+			}
+		}
+	}
+	if loops < 2000 || several < 500 || steps < 800 || products < 800 {
+		t.Error(loops, several, steps, products)
+	}
+}
+
 func TestBits(t *testing.T) {
 	for seed := range uint64(200) {
 		ones := 0
@@ -193,5 +241,8 @@ func TestOneNumberMakesOneCode(t *testing.T) {
 	}
 	if !reflect.DeepEqual(samples.Calls(5, 9), samples.Calls(5, 9)) || reflect.DeepEqual(samples.Calls(5, 9), samples.Calls(6, 9)) {
 		t.Error("calls don't hang on their number alone")
+	}
+	if !reflect.DeepEqual(samples.Loops(5, 9), samples.Loops(5, 9)) || reflect.DeepEqual(samples.Loops(5, 9), samples.Loops(6, 9)) {
+		t.Error("loops don't hang on their number alone")
 	}
 }

@@ -20,12 +20,37 @@ func (c *coder) block(i int) {
 	for range c.below(7) {
 		b.Insts = append(b.Insts, c.inst(c.op(i), i, len(b.Insts)))
 	}
-	if b.End == api.Branch && (c.wanders || (c.few || c.calls) && c.once(2)) {
+	if c.turns {
+		c.steps(i)
+	}
+	if b.End == api.Branch && (c.wanders || c.turns && !c.once(4) || (c.few || c.calls) && c.once(2)) {
 		read := c.inst(api.IRead, i, len(b.Insts))
 		b.Insts = append(b.Insts, read)
 		b.Arg = read.Dst
 	} else if b.End == api.Branch || b.End == api.RetVal {
 		b.Arg = c.value(i, len(b.Insts), api.Lt+byte(c.below(6)))
+	}
+}
+
+// steps lets a block that goes back make steps for most phis there, by numbers, most times in the order in which they count.
+func (c *coder) steps(i int) {
+	b := &c.fun.Blocks[i]
+	for _, to := range []int{b.To, b.Else} {
+		if to == 0 || !c.above[to][i] {
+			continue
+		}
+		for _, x := range c.fun.Blocks[to].Phis {
+			if c.once(4) {
+				continue
+			}
+			at := len(b.Insts)
+			y := api.Inst{Op: byte(pickOf(&c.dice, api.Add, api.Add, api.Sub)), Args: []int{x.Dst, c.value(i, at, api.IConst)}}
+			if c.once(5) || y.Op == api.Add && c.once(2) {
+				y.Args[0], y.Args[1] = y.Args[1], y.Args[0]
+			}
+			y.Dst = c.make(y.Op, i, at)
+			b.Insts = append(b.Insts, y)
+		}
 	}
 }
 
@@ -38,8 +63,18 @@ func (c *coder) op(block int) byte {
 		return c.plain()
 	case c.calls:
 		return c.calling(block)
+	case c.turns:
+		return c.turning(block)
 	}
 	return c.any(block)
+}
+
+// turning answers mostly what is made of phis and numbers, and what shows that.
+func (c *coder) turning(block int) byte {
+	if c.once(6) {
+		return c.any(block)
+	}
+	return byte(pickOf(&c.dice, api.Mul, api.Mul, api.Mul, api.Shl, api.Shl, api.Add, api.Sub, api.IConst, api.IConst, api.Neg, api.IMark, api.IMark, api.IPrint))
 }
 
 // calling answers calls more often than anything else; in a leaf none. Parameters are asked for behind calls, too.
@@ -119,6 +154,8 @@ func (c *coder) inst(op byte, block, at int) api.Inst {
 	case api.IConst:
 		if c.few {
 			x.Imm = pickOf(&c.dice, 0, 1, 1, 2)
+		} else if c.turns {
+			x.Imm = pickOf(&c.dice, 1, 1, 2, 3, 12, -1, -7, 0, 62, 63, 64, 65, -64, 1<<62+3, -1<<63)
 		} else {
 			x.Imm = pickOf(&c.dice, 0, 0, 1, 1, 2, 3, 4, 7, 12, 63, 64, -1, -2, 1<<32, 1<<62, -1<<63)
 		}
@@ -178,7 +215,19 @@ func (c *coder) kinds(x api.Inst) []byte {
 	case api.ICall:
 		return make([]byte, c.code.Funs[x.Imm].Params)
 	}
+	if c.turns {
+		return c.productOf(x.Op)
+	}
 	return []byte{0, byte(pickOf(&c.dice, 0, 0, 0, api.IConst))}
+}
+
+// productOf answers by what the Args of an operation are made where code turns round: mostly a phi, or what was made of one, and a number.
+func (c *coder) productOf(op byte) []byte {
+	l := []byte{byte(pickOf(&c.dice, api.IPhi, api.IPhi, api.IPhi, api.Mul, api.Shl, 0)), byte(pickOf(&c.dice, api.IConst, api.IConst, api.IConst, 0))}
+	if c.once(3) && (op != api.Shl || c.once(2)) {
+		l[0], l[1] = l[1], l[0]
+	}
+	return l
 }
 
 // known answers what is known of some variables of the frames of a stop.
