@@ -14,7 +14,7 @@ type Fun struct {
 	Ahead  []int // of each head the block from which its loop is entered; of any other block -1
 	Size   int   // how many instructions, phis and blocks the function had when it was handed in
 	around []int // of each block the head of the innermost loop around it, of a head that of the next one around its own; or -1
-	far    []int // of each head that has a loop around its own the head of such a loop, most times far out; of others themselves
+	far    []int // of each head another one around it, by which one comes out of many loops soon; of an outermost one itself
 	inside forest.Forest
 	made   map[int]struct{} // the values that the function made when it was handed in
 	free   int              // no lesser number of a value is free
@@ -33,9 +33,8 @@ func Each(c api.Code, change func(f *Fun)) (api.Code, api.Errno) {
 			return api.Code{}, api.ErrLimit
 		}
 		change(l)
-		// So many instructions and phis need fewer values than there may be.
 		size += code.Size(api.Code{Funs: []api.Fun{l.Fun}})
-		if size > api.MaxCode {
+		if size > api.MaxCode || l.Vals > api.MaxVals {
 			return api.Code{}, api.ErrLimit
 		}
 		out.Funs = append(out.Funs, l.Fun)

@@ -169,16 +169,19 @@ func TestEach(t *testing.T) {
 	if e != api.OK || !code.Plain(d) || !slices.Equal(blocks, []int{1, 7, 1}) || Count(d, api.IConst) != 3 || d.Funs[2].Params != 2 || !reflect.DeepEqual(d.Stops, c.Stops) {
 		t.Errorf("%d, %v: %+v", e, blocks, d)
 	}
+	notPlain := Main(Ends(Inst(api.IGet, 0)))
+	notPlain.Funs[0].Vars = 1
 	for _, x := range []struct {
-		c    api.Code
-		more int
-		want api.Errno
+		c     api.Code
+		insts int
+		vals  int
+		want  api.Errno
 	}{
-		{c, api.MaxCode - 3, api.OK}, {c, api.MaxCode - 2, api.ErrLimit}, {api.Code{}, 0, api.ErrForm}, {Main(Ends(Inst(api.IGet, 0))), 0, api.ErrForm},
+		{c, api.MaxCode - 2, 9, api.OK}, {c, api.MaxCode - 1, 9, api.ErrLimit}, {c, 0, api.MaxVals, api.OK}, {c, 0, api.MaxVals + 1, api.ErrLimit}, {api.Code{}, 0, 0, api.ErrForm}, {notPlain, 0, 0, api.ErrForm},
 	} {
 		d, e := loops.Each(x.c, func(f *loops.Fun) {
 			if f.Params == 2 {
-				f.Blocks[0].Insts = make([]api.Inst, x.more+1)
+				f.Blocks[0].Insts, f.Vals = make([]api.Inst, x.insts), x.vals
 			}
 		})
 		if e != x.want || e != api.OK && !reflect.DeepEqual(d, api.Code{}) {

@@ -53,7 +53,7 @@ func (n nest) known(block int) int {
 	return block
 }
 
-// far answers of each block one from which it is got far out at once: of those out there, it is the next one, or one to which twice as far is gone as by the way of the next one. So few steps are needed to come to any.
+// far answers of each block a head around it by which one comes out of many loops soon: the next one, or, where two equal leaps lead out from that, the one behind both; of a block in no loop itself.
 func far(order, around []int) []int {
 	l, depth := make([]int, len(around)), make([]int, len(around))
 	for _, block := range order {

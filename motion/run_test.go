@@ -292,11 +292,12 @@ func TestAllFunctions(t *testing.T) {
 
 // TestWhatIsNotLookedAt: isn't kept.
 func TestWhatIsNotLookedAt(t *testing.T) {
-	c := Main(Goes(1, Read(0)), Branch(1, 1, 2, Read(1)), Ends())
+	c := Main(Goes(1, Read(0)), Branch(1, 1, 2, Read(1), Mark(IsNumber(3, 8))), Ends())
 	want := code.Copy(c)
 	l := c.Funs[0].Blocks
 	l[0].Else, l[0].Arg, l[2].To, l[2].Else, l[2].Arg, c.Funs[0].Vars = 1, 99, 1, -4, 7, 3
 	l[0].Insts[0].Dbg = []api.Dbg{{Kind: 77}}
+	l[1].Insts[1].Dbg[0].Arg, l[1].Insts[1].Dbg[0].A = 12345, -6
 	if d, e := motion.Run(c); e != api.OK || !reflect.DeepEqual(d, want) {
 		t.Errorf("%d: %+v, want\n%+v", e, d, want)
 	}

@@ -271,6 +271,7 @@ func FuzzRun(f *testing.F) {
 	f.Fuzz(func(t *testing.T, seed uint64, blocks int, way uint64, n int) {
 		blocks = max(1, blocks%60)
 		input := samples.Bits(way, max(0, n%80))
+		hold(t, turns(seed), append(nums(int64(way)), input...), 600)
 		hold(t, samples.Loops(seed, blocks), input, 400)
 		hold(t, samples.Plain(seed, blocks), input, 400)
 		hold(t, samples.Code(seed, 0, 0), input, 400)

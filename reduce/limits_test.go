@@ -134,6 +134,34 @@ func TestTooLongCode(t *testing.T) {
 	}
 }
 
+// twice is a loop with so many products, each of which stands there twice, by a number that stands ahead: it becomes no longer, but needs two new values for each.
+func twice(products int) api.Code {
+	ahead := []api.Inst{Read(0), Number(1, 0), Number(2, 1)}
+	work := []api.Inst{Inst(api.Add, 4, 3, 2)}
+	for i := range products {
+		v := 10 + 3*i
+		ahead = append(ahead, Number(v, int64(2+i)))
+		work = append(work, Inst(api.Mul, v+1, 3, v), Inst(api.Mul, v+2, v, 3))
+	}
+	c := Main(Goes(1, ahead...), Behind(Branch(4, 1, 2, work...), Phi(3, 1, 4)), Ends())
+	c.Funs[0].Vals = 10 + 3*products
+	return c
+}
+
+// TestValuesThatAreTooMany: those that are gone keep their numbers.
+func TestValuesThatAreTooMany(t *testing.T) {
+	c := twice(11000)
+	if d := mustFit(t, c); code.Size(d) != code.Size(c) || d.Funs[0].Vals != 5+5*11000 {
+		t.Error(code.Size(c), code.Size(d), d.Funs[0].Vals)
+	}
+	wantErrLimit(t, twice(12500))
+	c = twice(300)
+	c.Funs[0].Vals = api.MaxVals
+	if d := mustFit(t, c); d.Funs[0].Vals != api.MaxVals {
+		t.Error(d.Funs[0].Vals)
+	}
+}
+
 // TestWaysInThatAreTooMany: phis and blocks ahead of loops beyond what there may be.
 func TestWaysInThatAreTooMany(t *testing.T) {
 	t.Parallel()
