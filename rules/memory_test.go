@@ -12,9 +12,12 @@ import (
 	"teasel/dead"
 	"teasel/flow"
 	"teasel/fold"
+	"teasel/live"
 	"teasel/lower"
 	"teasel/motion"
+	"teasel/moves"
 	"teasel/number"
+	"teasel/paint"
 	"teasel/reduce"
 	"teasel/samples"
 	"teasel/source"
@@ -34,6 +37,9 @@ type arguments struct {
 	Plain api.Code
 	Calls api.Code
 	Loops api.Code
+	Pairs [][2]int
+	Likes [][2]int
+	Moves []moves.Move
 }
 
 // asked are calls that are built, each with its answer and its error.
@@ -64,6 +70,15 @@ func asked() map[string]func(a arguments) (any, api.Errno) {
 		"calls.Run":     func(a arguments) (any, api.Errno) { l, e := calls.Run(a.Calls); return l, e },
 		"motion.Run":    func(a arguments) (any, api.Errno) { l, e := motion.Run(a.Loops); return l, e },
 		"reduce.Run":    func(a arguments) (any, api.Errno) { l, e := reduce.Run(a.Loops); return l, e },
+		"live.Ends": func(a arguments) (any, api.Errno) {
+			l, k, e := live.Ends(a.Loops, 0, true)
+			return [][][]int{l, k}, e
+		},
+		"live.Ahead":    func(a arguments) (any, api.Errno) { l, e := live.Ahead(a.Loops, 0, true, 0, 4); return l, e },
+		"live.Clashes":  func(a arguments) (any, api.Errno) { l, e := live.Clashes(a.Loops, 0, true); return l, e },
+		"paint.Paint":   func(a arguments) (any, api.Errno) { l, e := paint.Paint(9, a.Pairs, a.Likes, 3); return l, e },
+		"moves.Order":   func(a arguments) (any, api.Errno) { l, e := moves.Order(a.Moves, 99); return l, e },
+		"moves.Circles": func(a arguments) (any, api.Errno) { return moves.Circles(a.Moves), api.OK },
 	}
 }
 
@@ -80,6 +95,9 @@ func handed() reflect.Value {
 		Plain: samples.Plain(7, 40),
 		Calls: samples.Calls(8, 5),
 		Loops: samples.Loops(8, 20),
+		Pairs: [][2]int{{0, 1}, {1, 2}, {2, 0}, {3, 3}, {4, 1}, {1, 0}},
+		Likes: [][2]int{{0, 4}, {4, 8}, {1, 2}},
+		Moves: []moves.Move{{To: 1, From: 2}, {To: 2, From: 1}, {To: 3, From: 1}, {To: 4, From: 4}},
 	}), roomy)
 }
 

@@ -265,3 +265,34 @@ func keyOf(n ast.Node, field string, is func(key ast.Expr) bool) bool {
 	}
 	return false
 }
+
+// TestValuesOfASetAreToldToAClosure: a method of live's sets is handed one, and function literals are handed to it.
+func TestValuesOfASetAreToldToAClosure(t *testing.T) {
+	l := sources(t)
+	name := ""
+	find(l, "live", func(n ast.Node) bool {
+		f, ok := n.(*ast.FuncDecl)
+		if ok && f.Recv != nil && isName(f.Recv.List[0].Type, "set") && inside(f.Type, func(m ast.Node) bool { return m != f.Type && isFunc(m) }) {
+			name = f.Name.Name
+		}
+		return name != ""
+	})
+	if name == "" {
+		t.Fatal("no set of live is handed what its values are told to")
+	}
+	if !find(l, "live", func(n ast.Node) bool {
+		c, ok := n.(*ast.CallExpr)
+		if !ok {
+			return false
+		}
+		s, ok := c.Fun.(*ast.SelectorExpr)
+		return ok && s.Sel.Name == name && inside(c, func(m ast.Node) bool { _, is := m.(*ast.FuncLit); return is })
+	}) {
+		t.Error("the values of live's sets aren't told to a closure")
+	}
+}
+
+func isFunc(n ast.Node) bool {
+	_, is := n.(*ast.FuncType)
+	return is
+}
