@@ -2,7 +2,6 @@ package dead_test
 
 import (
 	"math"
-	"math/rand/v2"
 	"reflect"
 	"testing"
 
@@ -16,40 +15,6 @@ import (
 	"teasel/trace"
 	"teasel/tree"
 )
-
-// rows answers code of one function, most of whose values are made so that they can be told by others, and are known at marks; few are asked for.
-func rows(seed uint64) api.Code {
-	r := rand.New(rand.NewPCG(seed, 7))
-	ops := []byte{api.Add, api.Add, api.Sub, api.Sub, api.Mul, api.Shl, api.Neg, api.Not, api.ICopy, api.Xor}
-	var l []api.Inst
-	for len(l) < 40 {
-		v := 0
-		for _, x := range l {
-			v = max(v, x.Dst+1)
-		}
-		one := func() int { return r.IntN(max(v, 1)) }
-		switch k := r.IntN(12); {
-		case v == 0 || k == 0 && r.IntN(3) == 0:
-			l = append(l, Read(v))
-		case k < 3:
-			n := r.Int64N(9) - 4
-			if r.IntN(5) == 0 {
-				n = nums(math.MinInt64, math.MaxInt64, 1<<32, 64)[r.IntN(4)]
-			}
-			l = append(l, Number(v, n))
-		case k == 3:
-			l = append(l, Mark(IsValue(0, one(), r.Int64N(5)-2, r.Int64()), IsValue(1, one(), 1, 0), Deeper(1, IsValue(1, one(), math.MinInt64, 1)), IsValue(2, v-1, 1, 0)))
-			l[len(l)-1].Site = 1
-		case k == 4 && r.IntN(3) == 0:
-			l = append(l, Show(one()))
-		default:
-			op := ops[r.IntN(len(ops))]
-			n, _, _ := code.Shape(op)
-			l = append(l, Inst(op, v, []int{one(), one()}[:n]...))
-		}
-	}
-	return Main(Ends(l...))
-}
 
 // shown answers how many variables are shown at all marks of a run.
 func shown(c api.Code, input []int64) int {
@@ -69,7 +34,7 @@ func shown(c api.Code, input []int64) int {
 func TestRowsByChance(t *testing.T) {
 	made, left, was, is := 0, 0, 0, 0
 	for seed := range uint64(4000) {
-		c := rows(seed)
+		c := samples.Rows(seed)
 		input := nums(int64(seed), math.MinInt64, 1, math.MaxInt64, 5, 6, 7, 8, 9)
 		hold(t, c, input, 99)
 		d := mustRun(t, c)
@@ -149,7 +114,7 @@ func FuzzRun(f *testing.F) {
 	f.Fuzz(func(t *testing.T, seed uint64, blocks int, way uint64, n int) {
 		blocks = max(1, blocks%60)
 		input := samples.Bits(way, max(0, n%80))
-		hold(t, rows(seed), input, 99)
+		hold(t, samples.Rows(seed), input, 99)
 		hold(t, samples.Plain(seed, blocks), input, 400)
 		hold(t, samples.Code(seed, 0, 0), input, 400)
 		if c, e := ssa.Build(samples.Ways(seed, blocks, blocks%12)); e == api.OK {

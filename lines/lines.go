@@ -52,6 +52,12 @@ func (l *Lines) Known(d api.Dbg) (api.Dbg, bool) {
 	return out, true
 }
 
+// Tells tells whether a value stays, or can be told by one that does, or as a number.
+func (l *Lines) Tells(value int) bool {
+	_, is := l.of(value)
+	return is
+}
+
 // of answers the line of a value by one that stays, if it has one.
 func (l *Lines) of(value int) (line, bool) {
 	x, pure := l.makers[value]

@@ -51,15 +51,20 @@ func TestKnown(t *testing.T) {
 		{[]int{0}, IsValue(0, 4, math.MinInt64, math.MaxInt64), IsValue(0, 0, math.MinInt64, math.MaxInt64)},
 		{nil, api.Dbg{Kind: api.DNum, Arg: 9, A: 8, B: 7}, IsNumber(0, 7)},
 	} {
-		if got, is := lines.New(f, staying(x.stays...)).Known(x.was); !is || got != x.want {
+		l := lines.New(f, staying(x.stays...))
+		if got, is := l.Known(x.was); !is || got != x.want {
 			t.Errorf("where %v stay, %+v is told as %v, %+v, want %+v", x.stays, x.was, is, got, x.want)
+		}
+		if x.was.A != 0 && x.was.Kind == api.DVal && !l.Tells(x.was.Arg) {
+			t.Errorf("where %v stay, the value %d isn't told", x.stays, x.was.Arg)
 		}
 	}
 	for _, x := range []struct {
 		stays []int
 		value int
 	}{{nil, 0}, {[]int{1}, 4}, {[]int{1}, 10}, {[]int{0, 1}, 12}, {[]int{0}, 14}, {[]int{0, 1}, 15}, {[]int{0, 1}, 16}, {nil, 99}} {
-		if got, is := lines.New(f, staying(x.stays...)).Known(IsValue(0, x.value, 1, 1)); is || got != (api.Dbg{}) {
+		l := lines.New(f, staying(x.stays...))
+		if got, is := l.Known(IsValue(0, x.value, 1, 1)); is || got != (api.Dbg{}) || l.Tells(x.value) {
 			t.Errorf("where %v stay, the value %d is told as %+v", x.stays, x.value, got)
 		}
 	}

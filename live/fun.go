@@ -4,6 +4,7 @@ import (
 	"teasel/api"
 	"teasel/code"
 	"teasel/flow"
+	"teasel/uses"
 )
 
 // fun is a function of plain code, in which places are numbered through all blocks: each instruction is one, and each block's end, behind its instructions.
@@ -40,7 +41,7 @@ func newFun(f api.Fun, all bool) *fun {
 			l.phi(i, x)
 		}
 		for _, x := range b.Insts {
-			eachUse(x, all, func(v int) { l.use(i, v) })
+			uses.Each(x, all, func(v int) { l.use(i, v) })
 			l.place(i, x.Dst)
 		}
 		if b.End == api.Branch || b.End == api.RetVal {
@@ -50,21 +51,6 @@ func newFun(f api.Fun, all bool) *fun {
 	}
 	l.first = append(l.first, len(l.makes))
 	return l
-}
-
-// eachUse tells the values that an instruction uses.
-func eachUse(x api.Inst, all bool, tell func(value int)) {
-	for _, v := range x.Args {
-		tell(v)
-	}
-	if !all || x.Op != api.IMark && x.Op != api.ICall {
-		return
-	}
-	for _, d := range x.Dbg {
-		if d.Kind == api.DVal {
-			tell(d.Arg)
-		}
-	}
 }
 
 func (l *fun) phi(block int, x api.Inst) {

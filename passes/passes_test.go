@@ -1,4 +1,4 @@
-// Package passes has tests alone: what is promised of all passes from code to code, layers 10 to 15.
+// Package passes has tests alone: what is promised of all passes from code to code, layers 10 to 15, and of alloc.Split, layer 19.
 package passes
 
 import (
@@ -6,6 +6,7 @@ import (
 	"testing"
 
 	"teasel/alike"
+	"teasel/alloc"
 	"teasel/api"
 	"teasel/calls"
 	"teasel/code"
@@ -36,6 +37,7 @@ func passes() []pass {
 		{"calls", calls.Run, true},
 		{"motion", motion.Run, true},
 		{"reduce", reduce.Run, true},
+		{"split", alloc.Split, true},
 	}
 }
 

@@ -6,6 +6,7 @@ import (
 	"slices"
 	"testing"
 
+	"teasel/alloc"
 	"teasel/api"
 	"teasel/calls"
 	"teasel/code"
@@ -37,6 +38,7 @@ type arguments struct {
 	Plain api.Code
 	Calls api.Code
 	Loops api.Code
+	Rows  api.Code
 	Pairs [][2]int
 	Likes [][2]int
 	Moves []moves.Move
@@ -79,6 +81,12 @@ func asked() map[string]func(a arguments) (any, api.Errno) {
 		"paint.Paint":   func(a arguments) (any, api.Errno) { l, e := paint.Paint(9, a.Pairs, a.Likes, 3); return l, e },
 		"moves.Order":   func(a arguments) (any, api.Errno) { l, e := moves.Order(a.Moves, 99); return l, e },
 		"moves.Circles": func(a arguments) (any, api.Errno) { return moves.Circles(a.Moves), api.OK },
+		"alloc.Split":   func(a arguments) (any, api.Errno) { l, e := alloc.Split(a.Loops); return l, e },
+		"alloc.Places":  func(a arguments) (any, api.Errno) { l, e := alloc.Places(a.Loops, 0, true); return l, e },
+		"alloc.Recovers": func(a arguments) (any, api.Errno) {
+			l, e := alloc.Recovers(a.Rows, 0, false, 0, 31)
+			return l, e
+		},
 	}
 }
 
@@ -95,6 +103,7 @@ func handed() reflect.Value {
 		Plain: samples.Plain(7, 40),
 		Calls: samples.Calls(8, 5),
 		Loops: samples.Loops(8, 20),
+		Rows:  samples.Rows(3),
 		Pairs: [][2]int{{0, 1}, {1, 2}, {2, 0}, {3, 3}, {4, 1}, {1, 0}},
 		Likes: [][2]int{{0, 4}, {4, 8}, {1, 2}},
 		Moves: []moves.Move{{To: 1, From: 2}, {To: 2, From: 1}, {To: 3, From: 1}, {To: 4, From: 4}},

@@ -199,6 +199,29 @@ func TestLoops(t *testing.T) {
 	}
 }
 
+// TestRows: they are plain; most of what they make takes one value, or a number and a value, and marks and calls know of it; little is printed.
+func TestRows(t *testing.T) {
+	ops, known := map[byte]int{}, 0
+	for seed := range uint64(300) {
+		c := samples.Rows(seed)
+		if !code.Plain(c) {
+			t.Fatalf("%d: %d of %+v", seed, code.Check(c), c)
+		}
+		for _, x := range c.Funs[0].Blocks[0].Insts {
+			ops[x.Op]++
+			known += len(x.Dbg)
+		}
+	}
+	for _, op := range []byte{api.Add, api.Sub, api.Mul, api.Shl, api.Neg, api.Not, api.ICopy, api.Xor, api.IConst, api.IRead, api.IMark, api.ICall, api.IPrint} {
+		if ops[op] < 150 {
+			t.Error("too few of the Op", op, ops[op])
+		}
+	}
+	if known < 3000 || ops[api.IPrint] > 1000 {
+		t.Error(known, ops[api.IPrint])
+	}
+}
+
 func TestBits(t *testing.T) {
 	for seed := range uint64(200) {
 		ones := 0
@@ -244,5 +267,8 @@ func TestOneNumberMakesOneCode(t *testing.T) {
 	}
 	if !reflect.DeepEqual(samples.Loops(5, 9), samples.Loops(5, 9)) || reflect.DeepEqual(samples.Loops(5, 9), samples.Loops(6, 9)) {
 		t.Error("loops don't hang on their number alone")
+	}
+	if !reflect.DeepEqual(samples.Rows(5), samples.Rows(5)) || reflect.DeepEqual(samples.Rows(5), samples.Rows(6)) {
+		t.Error("rows don't hang on their number alone")
 	}
 }
