@@ -13,7 +13,7 @@ const registers = api.Regs - Spare
 // nothing is the seat of a value that has none, what sits on a seat that is free, and where a value is needed that nobody needs.
 const nothing = -1
 
-// seating gives the values of a function seats, of which the first ones are the registers. It goes through the blocks, each behind those that dominate it: so all that is live where a value is made has its seat, and the value takes the least one that is free. No more seats are needed than values are live at once; and no more is kept of who clashes with whom than is asked for, as of long code that may be more than there is room for.
+// seating gives the values of a function seats, of which the first ones are the registers. It goes through the blocks, each behind those that dominate it: so all that is live where a value is made has its seat, and the value takes the least one that is free. No more seats are needed than values are live at once. Which values clash is kept of those in registers alone, as of all values of long code it may be more than there is room for.
 type seating struct {
 	api.Fun
 	all     bool
@@ -38,7 +38,7 @@ func (s *seating) block(b api.Block, begins, ends []int) {
 		s.sitting[seat] = nothing
 	}
 	for _, v := range begins {
-		if s.seats[v] != nothing {
+		if s.seats[v] != nothing { // else it is one of the block's own phis
 			s.sitting[s.seats[v]] = v
 		}
 	}
