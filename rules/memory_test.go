@@ -13,7 +13,9 @@ import (
 	"teasel/dead"
 	"teasel/flow"
 	"teasel/fold"
+	"teasel/inst"
 	"teasel/live"
+	"teasel/locs"
 	"teasel/lower"
 	"teasel/motion"
 	"teasel/moves"
@@ -42,6 +44,10 @@ type arguments struct {
 	Pairs [][2]int
 	Likes [][2]int
 	Moves []moves.Move
+	Words []api.Word
+	Debug api.Debug
+	Bytes []byte // of Words
+	Known []byte // of Debug
 }
 
 // asked are calls that are built, each with its answer and its error.
@@ -87,6 +93,13 @@ func asked() map[string]func(a arguments) (any, api.Errno) {
 			l, e := alloc.Recovers(a.Rows, 0, false, 0, 31)
 			return l, e
 		},
+		"inst.Encode": func(a arguments) (any, api.Errno) { l, e := inst.Encode(a.Words[0]); return l, e },
+		"inst.Decode": func(a arguments) (any, api.Errno) { l, _, e := inst.Decode(a.Bytes); return l, e },
+		"inst.Pack":   func(a arguments) (any, api.Errno) { l, e := inst.Pack(a.Words); return l, e },
+		"inst.Unpack": func(a arguments) (any, api.Errno) { l, e := inst.Unpack(a.Bytes); return l, e },
+		"locs.Form":   func(a arguments) (any, api.Errno) { return locs.Form(a.Debug), api.OK },
+		"locs.Encode": func(a arguments) (any, api.Errno) { l, e := locs.Encode(a.Debug); return l, e },
+		"locs.Decode": func(a arguments) (any, api.Errno) { l, e := locs.Decode(a.Known); return l, e },
 	}
 }
 
@@ -94,6 +107,14 @@ func asked() map[string]func(a arguments) (any, api.Errno) {
 func handed() reflect.Value {
 	const text = "fn f(a: arr, n: int): int { let x: int; a[n] = read(); if n > 0 && true { x = f(a, n - 1) + a[n]; } else { x = -a[0]; } return x; } fn main(): int { let a: arr[3]; let i: int = 0; while i < 2 { print f(a, i); i = i + 1; } return len(a); }"
 	p, _, _ := tree.Parse(text)
+	words := []api.Word{{Op: api.MNum, A: 3, Imm: -200}, {Op: api.Add, A: 1, B: 3, C: 3}, {Op: api.MMark}, {Op: api.MRet, A: 1}}
+	debug := api.Debug{
+		Stops: [][]api.Spot{{{Fn: 0, Stmt: 1}}, {{Fn: 1, Stmt: 300}, {Fn: 0, Stmt: 2}}},
+		Marks: []api.Mark{{Stop: 1, Locs: []api.Loc{{Var: 1, Kind: api.LNum, B: -7}, {Depth: 1, Kind: api.LReg, Arg: 3, A: 1}}}, {Stop: 0, Locs: []api.Loc{{Kind: api.LSlot, A: 1}}}},
+		Sites: []api.Site{{At: 0, Mark: 1}, {At: 1000}},
+	}
+	bytes, _ := inst.Pack(words)
+	known, _ := locs.Encode(debug)
 	return sized(reflect.ValueOf(arguments{
 		Prog:  p,
 		Input: []int64{5, 6, 7, 8},
@@ -107,6 +128,10 @@ func handed() reflect.Value {
 		Pairs: [][2]int{{0, 1}, {1, 2}, {2, 0}, {3, 3}, {4, 1}, {1, 0}},
 		Likes: [][2]int{{0, 4}, {4, 8}, {1, 2}},
 		Moves: []moves.Move{{To: 1, From: 2}, {To: 2, From: 1}, {To: 3, From: 1}, {To: 4, From: 4}},
+		Words: words,
+		Debug: debug,
+		Bytes: bytes,
+		Known: known,
 	}), roomy)
 }
 

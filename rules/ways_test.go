@@ -296,3 +296,55 @@ func isFunc(n ast.Node) bool {
 	_, is := n.(*ast.FuncType)
 	return is
 }
+
+// TestListsOfAnyTypeAreGoneThroughByOneGenericFunction: packed's, by which inst's and locs's are gone through; its faults are asked by errors.Is.
+func TestListsOfAnyTypeAreGoneThroughByOneGenericFunction(t *testing.T) {
+	l := sources(t)
+	var generic []string
+	for _, pack := range []string{"inst", "locs", "packed"} {
+		find(l, pack, func(n ast.Node) bool {
+			if f, ok := n.(*ast.FuncDecl); ok && f.Type.TypeParams != nil {
+				generic = append(generic, pack+"."+f.Name.Name)
+			}
+			return false
+		})
+	}
+	if len(generic) != 1 || generic[0] != "packed.Each" {
+		t.Error("the generic functions are", generic)
+	}
+	for _, pack := range []string{"inst", "locs"} {
+		if !find(l, pack, func(n ast.Node) bool { c, ok := n.(*ast.CallExpr); return ok && isSelector(c.Fun, "packed", "Each") }) {
+			t.Error("the lists of " + pack + " aren't gone through by it")
+		}
+		if !find(l, pack, func(n ast.Node) bool { c, ok := n.(*ast.CallExpr); return ok && isSelector(c.Fun, "packed", "Errno") }) {
+			t.Error("nobody asks the faults of " + pack)
+		}
+	}
+	if !find(l, "packed", func(n ast.Node) bool {
+		f, ok := n.(*ast.FuncDecl)
+		return ok && f.Name.Name == "Errno" && inside(f, func(m ast.Node) bool { c, ok := m.(*ast.CallExpr); return ok && isSelector(c.Fun, "errors", "Is") })
+	}) {
+		t.Error("faults aren't asked by errors.Is")
+	}
+}
+
+// TestNumbersAreWrittenAndReadByMethodValues: of inst and locs, a walk's functions are those of a writer, or of a reader.
+func TestNumbersAreWrittenAndReadByMethodValues(t *testing.T) {
+	l := sources(t)
+	for pack, number := range map[string]string{"inst": "unsigned", "locs": "number"} {
+		for _, hand := range []string{"writer", "reader"} {
+			if !find(l, pack, func(n ast.Node) bool {
+				f, ok := n.(*ast.FuncDecl)
+				if !ok || f.Recv == nil || !inside(f.Recv, func(m ast.Node) bool { return isName(m, hand) }) {
+					return false
+				}
+				return inside(f.Body, func(m ast.Node) bool {
+					kv, ok := m.(*ast.KeyValueExpr)
+					return ok && isName(kv.Key, number) && isSelector(kv.Value, f.Recv.List[0].Names[0].Name, number)
+				})
+			}) {
+				t.Error("the numbers of " + pack + " aren't those of a " + hand + "'s method value")
+			}
+		}
+	}
+}
