@@ -20,7 +20,7 @@ func (r *reader) number(n *int) error {
 }
 
 func (r *reader) above(n *int, from int) error {
-	x, err := r.next()
+	x, err := r.rest.Number()
 	if err != nil {
 		return err
 	}
@@ -32,7 +32,7 @@ func (r *reader) above(n *int, from int) error {
 }
 
 func (r *reader) kind(b *byte) error {
-	x, err := r.next()
+	x, err := r.rest.Number()
 	if err != nil {
 		return err
 	}
@@ -44,30 +44,10 @@ func (r *reader) kind(b *byte) error {
 }
 
 func (r *reader) signed(n *int64) error {
-	x, err := r.next()
+	x, err := r.rest.Signed()
 	if err != nil {
 		return err
 	}
-	*n = int64(x>>1) ^ -int64(x&1)
+	*n = x
 	return nil
-}
-
-func (r *reader) next() (uint64, error) {
-	first, err := r.rest.Take(1)
-	if err != nil {
-		return 0, err
-	}
-	if first[0] <= short {
-		return uint64(first[0]), nil
-	}
-	size := int(first[0]) - short
-	l, err := r.rest.Take(size)
-	if err != nil {
-		return 0, err
-	}
-	var x uint64
-	for _, b := range l {
-		x = x<<8 | uint64(b)
-	}
-	return x, packed.Unless(x > short && packed.Size(x) == size)
 }

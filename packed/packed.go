@@ -1,4 +1,4 @@
-// Package packed has what inst and locs need alike to write things as bytes and to read them.
+// Package packed has what inst, locs and vm need alike to write things as bytes and to read them.
 package packed
 
 import (
@@ -67,4 +67,55 @@ func (r *Rest) Take(n int) ([]byte, error) {
 	l := (*r)[:n]
 	*r = (*r)[n:]
 	return l, nil
+}
+
+// short is the greatest number without a sign that is a byte itself; a greater one stands behind a byte that is greater by how many bytes it has.
+const short = 0xf7
+
+// Append adds a number without a sign to bytes, in as few as there must be.
+func Append(p []byte, n uint64) []byte {
+	if n <= short {
+		return append(p, byte(n))
+	}
+	size := Size(n)
+	p = append(p, byte(short+size))
+	for i := size - 1; i >= 0; i-- {
+		p = append(p, byte(n>>(8*i)))
+	}
+	return p
+}
+
+// Number answers the next number that Append added.
+func (r *Rest) Number() (uint64, error) {
+	first, err := r.Take(1)
+	if err != nil {
+		return 0, err
+	}
+	if first[0] <= short {
+		return uint64(first[0]), nil
+	}
+	size := int(first[0]) - short
+	l, err := r.Take(size)
+	if err != nil {
+		return 0, err
+	}
+	var n uint64
+	for _, b := range l {
+		n = n<<8 | uint64(b)
+	}
+	return n, Unless(n > short && Size(n) == size)
+}
+
+// AppendSigned adds a number with a sign, so that small ones are short, be they above 0 or below.
+func AppendSigned(p []byte, n int64) []byte {
+	return Append(p, uint64(n<<1^n>>63))
+}
+
+// Signed answers the next number that AppendSigned added.
+func (r *Rest) Signed() (int64, error) {
+	n, err := r.Number()
+	if err != nil {
+		return 0, err
+	}
+	return int64(n>>1) ^ -int64(n&1), nil
 }

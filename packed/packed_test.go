@@ -3,6 +3,7 @@ package packed_test
 import (
 	"errors"
 	"fmt"
+	"math"
 	"slices"
 	"testing"
 
@@ -116,5 +117,49 @@ func TestTake(t *testing.T) {
 	r = packed.Rest{1, 2}
 	if l, err := r.Take(3); !errors.Is(err, packed.Wrong) || l != nil || len(r) != 2 {
 		t.Error(l, err, r)
+	}
+}
+
+// TestNumbers: up to f7 a byte, else as few as there must be, behind how many they are.
+func TestNumbers(t *testing.T) {
+	for n, want := range map[uint64][]byte{0: {0}, 1: {1}, 0xf7: {0xf7}, 0xf8: {0xf8, 0xf8}, 0xff: {0xf8, 0xff}, 0x100: {0xf9, 1, 0}, 0x12345: {0xfa, 1, 0x23, 0x45}, 1<<56 - 1: {0xfe, 255, 255, 255, 255, 255, 255, 255}, 1 << 56: {0xff, 1, 0, 0, 0, 0, 0, 0, 0}, 1<<64 - 1: {0xff, 255, 255, 255, 255, 255, 255, 255, 255}} {
+		p := packed.Append([]byte{9}, n)
+		if !slices.Equal(p, append([]byte{9}, want...)) {
+			t.Errorf("%x: % x", n, p)
+		}
+		r := packed.Rest(append(p[1:], 7))
+		if got, err := r.Number(); got != n || err != nil || len(r) != 1 {
+			t.Errorf("%x: %x, %v", n, got, err)
+		}
+		for cut := range want {
+			r := packed.Rest(want[:cut])
+			if _, err := r.Number(); !errors.Is(err, packed.Wrong) {
+				t.Errorf("% x: %v", want[:cut], err)
+			}
+		}
+	}
+	for _, p := range [][]byte{{0xf8, 0}, {0xf8, 0xf7}, {0xf9, 0, 0xff}, {0xf9, 0, 5}, {0xff, 0, 1, 2, 3, 4, 5, 6, 7}} {
+		r := packed.Rest(p)
+		if _, err := r.Number(); !errors.Is(err, packed.Wrong) {
+			t.Errorf("% x: %v", p, err)
+		}
+		r = packed.Rest(p)
+		if n, err := r.Signed(); n != 0 || !errors.Is(err, packed.Wrong) {
+			t.Errorf("% x: %d, %v", p, n, err)
+		}
+	}
+}
+
+// TestNumbersWithASign: 2 n of one from 0 on, -2 n - 1 of one below.
+func TestNumbersWithASign(t *testing.T) {
+	for n, want := range map[int64][]byte{0: {0}, -1: {1}, 1: {2}, -2: {3}, 123: {0xf6}, -124: {0xf7}, 124: {0xf8, 0xf8}, math.MaxInt64: {0xff, 255, 255, 255, 255, 255, 255, 255, 254}, math.MinInt64: {0xff, 255, 255, 255, 255, 255, 255, 255, 255}} {
+		p := packed.AppendSigned(nil, n)
+		if !slices.Equal(p, want) {
+			t.Errorf("%d: % x", n, p)
+		}
+		r := packed.Rest(p)
+		if got, err := r.Signed(); got != n || err != nil || len(r) != 0 {
+			t.Errorf("%d: %d, %v", n, got, err)
+		}
 	}
 }

@@ -183,6 +183,14 @@ func faceLocs() {
 }
 
 func faceVm() {
+	var _ func(img api.Image, input []int64) (*vm.Machine, api.Errno) = vm.New
+	var _ func(m *vm.Machine, steps int) int = (*vm.Machine).Run
+	var _ func(m *vm.Machine, steps int) bool = (*vm.Machine).ToMark
+	var _ func(m *vm.Machine) vm.Status = (*vm.Machine).Status
+	var _ func(m *vm.Machine) []vm.Call = (*vm.Machine).Calls
+	var _ func(m *vm.Machine) []int64 = (*vm.Machine).Heap
+	var _ func(m *vm.Machine) []byte = (*vm.Machine).Save
+	var _ func(img api.Image, input []int64, p []byte) (*vm.Machine, api.Errno) = vm.Load
 	_ = struct {
 		End   byte
 		Exit  int64

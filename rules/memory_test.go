@@ -28,6 +28,8 @@ import (
 	"teasel/trace"
 	"teasel/tree"
 	"teasel/types"
+	"teasel/vet"
+	"teasel/vm"
 )
 
 // arguments are what is handed in to a call.
@@ -48,6 +50,15 @@ type arguments struct {
 	Debug api.Debug
 	Bytes []byte // of Words
 	Known []byte // of Debug
+	Image api.Image
+	Saved []byte // of a machine of Image
+}
+
+// machine answers what is told of one, behind some steps.
+func machine(a arguments, told func(m *vm.Machine) any) (any, api.Errno) {
+	m, e := vm.New(a.Image, a.Input)
+	m.Run(5)
+	return told(m), e
 }
 
 // asked are calls that are built, each with its answer and its error.
@@ -100,6 +111,12 @@ func asked() map[string]func(a arguments) (any, api.Errno) {
 		"locs.Form":   func(a arguments) (any, api.Errno) { return locs.Form(a.Debug), api.OK },
 		"locs.Encode": func(a arguments) (any, api.Errno) { l, e := locs.Encode(a.Debug); return l, e },
 		"locs.Decode": func(a arguments) (any, api.Errno) { l, e := locs.Decode(a.Known); return l, e },
+		"vm.Status":   func(a arguments) (any, api.Errno) { return machine(a, func(m *vm.Machine) any { return m.Status() }) },
+		"vm.Calls":    func(a arguments) (any, api.Errno) { return machine(a, func(m *vm.Machine) any { return m.Calls() }) },
+		"vm.Heap":     func(a arguments) (any, api.Errno) { return machine(a, func(m *vm.Machine) any { return m.Heap() }) },
+		"vm.Save":     func(a arguments) (any, api.Errno) { return machine(a, func(m *vm.Machine) any { return m.Save() }) },
+		"vm.Load":     func(a arguments) (any, api.Errno) { m, e := vm.Load(a.Image, a.Input, a.Saved); return m.Calls(), e },
+		"vet.Check":   func(a arguments) (any, api.Errno) { at, e := vet.Check(a.Image); return at, e },
 	}
 }
 
@@ -115,6 +132,13 @@ func handed() reflect.Value {
 	}
 	bytes, _ := inst.Pack(words)
 	known, _ := locs.Encode(debug)
+	image := api.Image{
+		Words:   []api.Word{{Op: api.MMark}, {Op: api.MAlloc, A: 1, Imm: 2}, {Op: api.MRead, A: 2}, {Op: api.MPrint, A: 2}, {Op: api.MOut, A: 1, Imm: 1}, {Op: api.MRet, A: 2}},
+		Entries: []api.Entry{{Slots: 3}, {At: 5}},
+	}
+	image.Debug, _ = locs.Encode(api.Debug{Stops: [][]api.Spot{{{Stmt: 1}}}, Marks: []api.Mark{{}}, Sites: []api.Site{{At: 2}}})
+	m, _ := vm.New(image, []int64{5})
+	m.Run(5)
 	return sized(reflect.ValueOf(arguments{
 		Prog:  p,
 		Input: []int64{5, 6, 7, 8},
@@ -132,6 +156,8 @@ func handed() reflect.Value {
 		Debug: debug,
 		Bytes: bytes,
 		Known: known,
+		Image: image,
+		Saved: m.Save(),
 	}), roomy)
 }
 

@@ -348,3 +348,59 @@ func TestNumbersAreWrittenAndReadByMethodValues(t *testing.T) {
 		}
 	}
 }
+
+// TestStepsAreCountedByAnAtomicCounter: of vm's machine.
+func TestStepsAreCountedByAnAtomicCounter(t *testing.T) {
+	l := sources(t)
+	counter := ""
+	find(l, "vm", func(n ast.Node) bool {
+		name, fields := fieldsOf(n)
+		for _, f := range fields {
+			if name == "Machine" && isSelector(f.Type, "atomic", "Int64") {
+				counter = f.Names[0].Name
+			}
+		}
+		return counter != ""
+	})
+	if counter == "" {
+		t.Fatal("a machine has no atomic counter")
+	}
+	if !find(l, "vm", func(n ast.Node) bool {
+		c, ok := n.(*ast.CallExpr)
+		if !ok {
+			return false
+		}
+		add, ok := c.Fun.(*ast.SelectorExpr)
+		return ok && add.Sel.Name == "Add" && inside(add.X, func(m ast.Node) bool { return isName(m, counter) })
+	}) {
+		t.Error("nothing counts by it")
+	}
+}
+
+// TestRegistersAreAnArrayThatIsCutToAList: those of vm's calls.
+func TestRegistersAreAnArrayThatIsCutToAList(t *testing.T) {
+	l := sources(t)
+	array := ""
+	find(l, "vm", func(n ast.Node) bool {
+		_, fields := fieldsOf(n)
+		for _, f := range fields {
+			if a, ok := f.Type.(*ast.ArrayType); ok && a.Len != nil && isSelector(a.Len, "api", "Regs") {
+				array = f.Names[0].Name
+			}
+		}
+		return array != ""
+	})
+	if array == "" {
+		t.Fatal("the registers of vm are no array")
+	}
+	if !find(l, "vm", func(n ast.Node) bool {
+		s, ok := n.(*ast.SliceExpr)
+		if !ok {
+			return false
+		}
+		x, ok := s.X.(*ast.SelectorExpr)
+		return ok && x.Sel.Name == array
+	}) {
+		t.Error("the registers of vm aren't cut to a list")
+	}
+}

@@ -2,6 +2,7 @@ package trace
 
 import (
 	"teasel/api"
+	"teasel/cells"
 	"teasel/source"
 )
 
@@ -30,7 +31,7 @@ type machine struct {
 	values   stack
 	vars     stack
 	taken    []int64
-	heap     heap
+	heap     cells.Heap
 	result   Result
 }
 
@@ -200,17 +201,17 @@ func (m *machine) memory(x *api.Inst) (int64, byte) {
 	}
 	switch x.Op {
 	case api.ILoad:
-		return m.heap.load(args[0], args[1])
+		return m.heap.Load(args[0], args[1])
 	case api.IStore:
-		return 0, m.heap.store(args[0], args[1], args[2])
+		return 0, m.heap.Store(args[0], args[1], args[2])
 	case api.ILen:
-		return m.heap.length(args[0])
+		return m.heap.Length(args[0])
 	case api.IAlloc:
-		return m.heap.alloc(x.Imm)
+		return m.heap.Alloc(x.Imm)
 	case api.ITop:
-		return m.heap.top(), 0
+		return m.heap.Top(), 0
 	}
-	return 0, m.heap.free(args[0])
+	return 0, m.heap.Free(args[0])
 }
 
 // reckon answers what an operation of one or two values answers.
