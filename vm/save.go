@@ -19,7 +19,7 @@ func (m *Machine) Save() []byte {
 	return to.bytes
 }
 
-// Load answers the machine whose Save is p. What its own Save isn't was none, as it might be written shorter.
+// Load answers the machine whose Save is p. Other bytes may tell the same, with noughts at the end of the slots: no machine was saved as these.
 func Load(img api.Image, input []int64, p []byte) (*Machine, api.Errno) {
 	m, e := New(img, input)
 	if e != api.OK {
