@@ -18,11 +18,37 @@ func (w *writer) expr(e api.Expr) int {
 	case api.ELen:
 		return w.make(api.ILen, 0, w.variable(e.Name))
 	case api.EUn:
-		return w.make(e.Op, 0, w.expr(e.Args[0]))
+		return w.signed(e)
 	case api.EBin:
 		return w.binary(e)
 	}
 	return w.make(api.IConst, e.N)
+}
+
+// signed writes an expression behind signs. A row of - and ~, however long, makes of it a times it, and n, where a is 1 or -1; of two ! nothing is left.
+func (w *writer) signed(e api.Expr) int {
+	inner := e.Args[0]
+	if inner.Kind != api.EUn {
+		return w.make(e.Op, 0, w.expr(inner))
+	}
+	if e.Op == api.Bang {
+		return w.expr(inner.Args[0])
+	}
+	a, n := int64(1), int64(0)
+	for ; e.Kind == api.EUn; e = e.Args[0] {
+		if e.Op == api.Not {
+			n -= a
+		}
+		a = -a
+	}
+	v := w.expr(e)
+	switch {
+	case a == -1:
+		return w.make(api.Sub, 0, w.make(api.IConst, n), v)
+	case n != 0:
+		return w.make(api.Add, 0, v, w.make(api.IConst, n))
+	}
+	return v
 }
 
 func (w *writer) variable(name string) int {

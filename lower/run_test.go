@@ -1,6 +1,7 @@
 package lower_test
 
 import (
+	"math"
 	"reflect"
 	"slices"
 	"strconv"
@@ -279,6 +280,50 @@ func TestAgainstTheSource(t *testing.T) {
 	for end := byte(api.Halt); end <= api.StopFuel; end++ {
 		if had[end] < 10 {
 			t.Errorf("only %d of the runs end with %d", had[end], end)
+		}
+	}
+}
+
+// rows answers all rows of so many signs.
+func rows(signs string, n int) []string {
+	if n == 0 {
+		return []string{""}
+	}
+	var l []string
+	for _, row := range rows(signs, n-1) {
+		for _, sign := range signs {
+			l = append(l, row+string(sign))
+		}
+	}
+	return l
+}
+
+// TestSignsInARow: each row of up to six, and long ones, that come to few instructions.
+func TestSignsInARow(t *testing.T) {
+	long := strings.Repeat("-~~-~", 300)
+	for n := range 7 {
+		for _, row := range append(rows("-~", n), long+"-"[:n%2]) {
+			for _, x := range []int64{0, 1, -7, math.MinInt64, math.MaxInt64} {
+				s := "fn main(): int { let x: int = read(); print 3 - " + row + "x; return " + row + "-9223372036854775807; }"
+				if hold(t, s, nums(x), 9) != api.Halt {
+					t.Error(s)
+				}
+				if n := code.Size(mustLower(t, mustParse(t, s))); n > 20 {
+					t.Errorf("%d instructions, of %.200s", n, s)
+				}
+			}
+		}
+		row := strings.Repeat("!", n)
+		for _, row := range []string{row, strings.Repeat("!!", 500) + row} {
+			s := "fn main(): int { let b: bool = read() > 0; if " + row + "b { print " + row + "true; } print " + row + "(b && " + row + "b); return 0; }"
+			for _, x := range []int64{0, 1} {
+				if hold(t, s, nums(x), 9) != api.Halt {
+					t.Error(s)
+				}
+			}
+			if n := code.Size(mustLower(t, mustParse(t, s))); n > 30 {
+				t.Errorf("%d instructions, of %.200s", n, s)
+			}
 		}
 	}
 }

@@ -57,3 +57,53 @@ func TestShownOfOneSum(t *testing.T) {
 	wantLeft(t, c, 1, 0, 1)
 	wantShown(t, c, nums(5, 0, 1, 0), 2, map[int]int64{0: 12, 1: 12, 2: 6})
 }
+
+// toldBy answers by which value a mark in the block 1 tells the variable 0, and how many times that.
+func toldBy(t *testing.T, c api.Code) (int, int64) {
+	t.Helper()
+	for _, x := range mustRun(t, c).Funs[0].Blocks[1].Insts {
+		if x.Op == api.IMark {
+			return x.Dbg[0].Arg, x.Dbg[0].A
+		}
+	}
+	t.Fatal("no mark")
+	return 0, 0
+}
+
+// TestToldByWhoIsAskedFor: by the counter, where anybody asks for that, or for what it is next, as for the sum there may be nobody; by the sum, where nobody does.
+func TestToldByWhoIsAskedFor(t *testing.T) {
+	head := []api.Inst{Inst(api.Mul, 6, 4, 3), Mark(IsValue(0, 6, 5, 1)), Show(6), Inst(api.Add, 5, 4, 2)}
+	for _, x := range []struct {
+		name  string
+		asks  api.Inst
+		count bool
+	}{
+		{"nobody", Mark(IsValue(0, 4, 1, 0)), false},
+		{"the counter", Show(4), true},
+		{"the counter, for a sum", Inst(api.Add, 7, 4, 3), true},
+		{"what it is next", Show(5), true},
+		{"the product", Show(6), false},
+		{"a product of the counter", Inst(api.Mul, 7, 4, 2), false},
+		{"a product of the product", Inst(api.Mul, 7, 6, 2), false},
+	} {
+		c := turn(2, 12, append(head[:4:4], x.asks)...)
+		c.Funs[0].Blocks[2] = Ends()
+		hold(t, c, nums(3, 8, 1, 1, 0), 100)
+		if v, n := toldBy(t, c); (v == 4) != x.count || x.count && n != 60 || !x.count && n != 5 {
+			t.Errorf("%s: it is told by %d times %d", x.name, n, v)
+		}
+	}
+	// A branch, an answer, a phi of another block.
+	for i, b := range []api.Block{Ends(Show(1)), Answers(4), Answers(5), Behind(Ends(Show(8)), Phi(8, 4)), Behind(Ends(Show(8)), Phi(8, 5))} {
+		c := turn(2, 12, head...)
+		c.Funs[0].Blocks[2] = b
+		if v, _ := toldBy(t, c); (v == 4) != (i > 0) {
+			t.Errorf("behind %d it is told by %d", i, v)
+		}
+	}
+	c := turn(2, 12, head...)
+	c.Funs[0].Blocks[1].Arg, c.Funs[0].Blocks[2] = 4, Ends()
+	if v, _ := toldBy(t, c); v != 4 {
+		t.Errorf("where a branch asks for the counter it is told by %d", v)
+	}
+}

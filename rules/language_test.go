@@ -30,7 +30,7 @@ func (s goFile) errorf(t *testing.T, at token.Pos, what string) {
 
 // layers are the project's packages, from below; samples, which only tests call, stands below all of them.
 func layers() []string {
-	return strings.Fields("api samples parts forest uses lex tree types source flow code lines loops cells trace alike lower ssa fold number dead calls motion reduce live paint moves alloc packed inst locs vm vet emit keep replay cursor debug shell")
+	return strings.Fields("api samples parts forest uses lex tree types source flow code lines loops cells trace alike lower ssa fold number dead calls motion reduce live paint moves alloc packed inst locs vm vet seen emit keep replay cursor debug shell")
 }
 
 // files: what stands in a package's folder.

@@ -11,9 +11,11 @@ import (
 	"teasel/calls"
 	"teasel/code"
 	"teasel/dead"
+	"teasel/emit"
 	"teasel/flow"
 	"teasel/fold"
 	"teasel/inst"
+	"teasel/keep"
 	"teasel/live"
 	"teasel/locs"
 	"teasel/lower"
@@ -104,19 +106,42 @@ func asked() map[string]func(a arguments) (any, api.Errno) {
 			l, e := alloc.Recovers(a.Rows, 0, false, 0, 31)
 			return l, e
 		},
-		"inst.Encode": func(a arguments) (any, api.Errno) { l, e := inst.Encode(a.Words[0]); return l, e },
-		"inst.Decode": func(a arguments) (any, api.Errno) { l, _, e := inst.Decode(a.Bytes); return l, e },
-		"inst.Pack":   func(a arguments) (any, api.Errno) { l, e := inst.Pack(a.Words); return l, e },
-		"inst.Unpack": func(a arguments) (any, api.Errno) { l, e := inst.Unpack(a.Bytes); return l, e },
-		"locs.Form":   func(a arguments) (any, api.Errno) { return locs.Form(a.Debug), api.OK },
-		"locs.Encode": func(a arguments) (any, api.Errno) { l, e := locs.Encode(a.Debug); return l, e },
-		"locs.Decode": func(a arguments) (any, api.Errno) { l, e := locs.Decode(a.Known); return l, e },
-		"vm.Status":   func(a arguments) (any, api.Errno) { return machine(a, func(m *vm.Machine) any { return m.Status() }) },
-		"vm.Calls":    func(a arguments) (any, api.Errno) { return machine(a, func(m *vm.Machine) any { return m.Calls() }) },
-		"vm.Heap":     func(a arguments) (any, api.Errno) { return machine(a, func(m *vm.Machine) any { return m.Heap() }) },
-		"vm.Save":     func(a arguments) (any, api.Errno) { return machine(a, func(m *vm.Machine) any { return m.Save() }) },
-		"vm.Load":     func(a arguments) (any, api.Errno) { m, e := vm.Load(a.Image, a.Input, a.Saved); return m.Calls(), e },
-		"vet.Check":   func(a arguments) (any, api.Errno) { at, e := vet.Check(a.Image); return at, e },
+		"inst.Encode":       func(a arguments) (any, api.Errno) { l, e := inst.Encode(a.Words[0]); return l, e },
+		"inst.Decode":       func(a arguments) (any, api.Errno) { l, _, e := inst.Decode(a.Bytes); return l, e },
+		"inst.Pack":         func(a arguments) (any, api.Errno) { l, e := inst.Pack(a.Words); return l, e },
+		"inst.Unpack":       func(a arguments) (any, api.Errno) { l, e := inst.Unpack(a.Bytes); return l, e },
+		"locs.Form":         func(a arguments) (any, api.Errno) { return locs.Form(a.Debug), api.OK },
+		"locs.Encode":       func(a arguments) (any, api.Errno) { l, e := locs.Encode(a.Debug); return l, e },
+		"locs.Decode":       func(a arguments) (any, api.Errno) { l, e := locs.Decode(a.Known); return l, e },
+		"vm.Status":         func(a arguments) (any, api.Errno) { return machine(a, func(m *vm.Machine) any { return m.Status() }) },
+		"vm.Calls":          func(a arguments) (any, api.Errno) { return machine(a, func(m *vm.Machine) any { return m.Calls() }) },
+		"vm.Heap":           func(a arguments) (any, api.Errno) { return machine(a, func(m *vm.Machine) any { return m.Heap() }) },
+		"vm.Save":           func(a arguments) (any, api.Errno) { return machine(a, func(m *vm.Machine) any { return m.Save() }) },
+		"vm.Load":           func(a arguments) (any, api.Errno) { m, e := vm.Load(a.Image, a.Input, a.Saved); return m.Calls(), e },
+		"vet.Check":         func(a arguments) (any, api.Errno) { at, e := vet.Check(a.Image); return at, e },
+		"emit.Image":        func(a arguments) (any, api.Errno) { img, e := emit.Image(a.Loops, true); return img, e },
+		"emit.Passes":       func(a arguments) (any, api.Errno) { c, e := emit.Passes(a.Calls, emit.All); return c, e },
+		"emit.Passes, none": func(a arguments) (any, api.Errno) { c, e := emit.Passes(a.Loops, 0); return c, e },
+		"emit.Compile": func(a arguments) (any, api.Errno) {
+			img, _, e := emit.Compile("fn main(): int { print read(); return 1 / read(); }", 63)
+			return img, e
+		},
+		"keep.Put": func(a arguments) (any, api.Errno) {
+			s, _ := keep.New(2)
+			return 0, s.Put(7, a.Bytes, 0)
+		},
+		"keep.Best": func(a arguments) (any, api.Errno) {
+			s, e := keep.New(2)
+			s.Put(7, a.Bytes, 0)
+			_, first, _ := s.Best(9)
+			_, again, _ := s.Best(7)
+			return [][]byte{first, again}, e
+		},
+		"keep.List": func(a arguments) (any, api.Errno) {
+			s, e := keep.New(2)
+			s.Put(7, a.Bytes, 0)
+			return [][]int{s.List(), s.List()}, e
+		},
 	}
 }
 

@@ -404,3 +404,31 @@ func TestRegistersAreAnArrayThatIsCutToAList(t *testing.T) {
 		t.Error("the registers of vm aren't cut to a list")
 	}
 }
+
+// TestPassesAreAListOfFunctionsInFields: a struct of emit has a function from code to code, and a list of such structs is made by a function.
+func TestPassesAreAListOfFunctionsInFields(t *testing.T) {
+	l := sources(t)
+	owner := ""
+	find(l, "emit", func(n ast.Node) bool {
+		name, fields := fieldsOf(n)
+		for _, f := range fields {
+			if isFunc(f.Type) && inside(f.Type, func(m ast.Node) bool { x, ok := m.(ast.Expr); return ok && isSelector(x, "api", "Code") }) {
+				owner = name
+			}
+		}
+		return owner != ""
+	})
+	if owner == "" {
+		t.Fatal("no field of emit has a pass")
+	}
+	if !find(l, "emit", func(n ast.Node) bool {
+		x, ok := n.(*ast.CompositeLit)
+		if !ok || len(x.Elts) < 6 {
+			return false
+		}
+		a, ok := x.Type.(*ast.ArrayType)
+		return ok && isName(a.Elt, owner) && inside(x, func(m ast.Node) bool { y, ok := m.(ast.Expr); return ok && isSelector(y, "motion", "Run") })
+	}) {
+		t.Error("the passes are no list of these")
+	}
+}
