@@ -25,8 +25,9 @@ type ferry struct {
 // crossing is a block whose phis get by ferry what they take.
 type crossing struct {
 	to    int
-	from  []int // the blocks from which they do; the place of each is the way's number
-	first int   // the number of the first lot, of all those of the function
+	from  []int        // the blocks from which they do; the place of each is the way's number
+	lots  [][]api.Inst // the phis, lot by lot
+	first int          // the number of the first lot, of all those of the function
 	trips []trip
 	done  int // the label of where all is fetched
 }
@@ -83,17 +84,7 @@ func (f *fun) isFar(from, to, old int) bool {
 		return b
 	}
 	from = origin(from, f.from)
-	for _, b := range f.ways[to] {
-		if origin(b, f.ways) == from {
-			return false
-		}
-	}
-	return from != to
-}
-
-// lots answers a crossing's phis, lot by lot.
-func (w *writer) lots(x *crossing) [][]api.Inst {
-	return slices.Collect(slices.Chunk(w.Blocks[x.to].Phis, w.ferry.fits))
+	return !slices.ContainsFunc(f.ways[to], func(b int) bool { return origin(b, f.ways) == from })
 }
 
 // moor numbers the lots, and gives the row's places their labels.
@@ -101,10 +92,10 @@ func (w *writer) moor() {
 	y := w.ferry
 	y.shift, y.fetch, y.next = w.label(), w.label(), w.label()
 	for _, x := range y.crossings {
+		x.lots = slices.Collect(slices.Chunk(w.Blocks[x.to].Phis, y.fits))
 		x.first, x.done = y.count, w.label()
-		n := len(w.lots(x))
-		y.count += n
-		for range (n + mostLots - 1) / mostLots {
+		y.count += len(x.lots)
+		for range slices.Chunk(x.lots, mostLots) {
 			x.trips = append(x.trips, trip{begin: w.label(), landed: w.label()})
 		}
 	}

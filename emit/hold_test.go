@@ -30,13 +30,18 @@ func mustImage(t *testing.T, c api.Code, all bool) api.Image {
 	if e != api.OK {
 		t.Fatalf("%d, of\n%s", e, told(c))
 	}
+	wantSound(t, c, img)
+	return img
+}
+
+func wantSound(t *testing.T, c api.Code, img api.Image) {
+	t.Helper()
 	if at, e := vet.Check(img); e != api.OK {
 		t.Fatalf("an image that isn't sound at %d by %d, of\n%s", at, e, told(c))
 	}
 	if len(img.Entries) != len(c.Funs) || img.Main != c.Main {
 		t.Fatalf("%d entries, Main %d, of\n%s", len(img.Entries), img.Main, told(c))
 	}
-	return img
 }
 
 // recovered answers code in which marks and calls know just what alloc.Recovers tells of it without all.
@@ -73,11 +78,16 @@ type holder struct {
 
 func newHolder(t *testing.T, c api.Code, all bool) holder {
 	t.Helper()
-	h := holder{c: c, least: c, img: mustImage(t, c, all)}
+	return holderOf(c, mustImage(t, c, all), all)
+}
+
+// holderOf holds an image that code has with all, or without.
+func holderOf(c api.Code, img api.Image, all bool) holder {
+	h := holder{c: c, least: c, img: img}
 	if !all {
 		h.least = recovered(c)
 	}
-	h.debug, _ = locs.Decode(h.img.Debug)
+	h.debug, _ = locs.Decode(img.Debug)
 	return h
 }
 

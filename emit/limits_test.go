@@ -98,29 +98,33 @@ func dice(seed uint64) func(n int) int {
 	}
 }
 
-// joined is a function in which so many blocks go on to one, that has so many phis: each takes one of them, by chance, from each of these. Known are so many of them at a mark.
+// reads is how many numbers joined code reads first.
+const reads = 8
+
+// joined is a function in which so many blocks go on to one, that has so many phis: each takes one of these, by chance, from each of the blocks. Known are so many of them at a mark. Which way is gone hangs on what a phi has.
 func joined(phis, ways, known int, seed uint64) api.Code {
 	below := dice(seed)
+	first, join := Goes(1), Goes(2)
+	for v := range reads {
+		first.Insts = append(first.Insts, Read(v))
+	}
 	mark := Mark()
 	for p := range known {
-		mark.Dbg = append(mark.Dbg, IsValue(p, 1+p, 1, int64(p)))
+		mark.Dbg = append(mark.Dbg, IsValue(p, reads+p, 1, int64(p)))
 	}
-	join := Goes(2)
 	if known > 0 {
 		join.Insts = append(join.Insts, mark)
 	}
 	for p := range phis {
-		x := Phi(1+p, 0)
+		x := Phi(reads+p, below(reads))
 		for range ways {
-			x.Args = append(x.Args, 1+below(phis))
+			x.Args = append(x.Args, reads+below(phis))
 		}
-		x.Args[1+below(ways)] = 0
 		join.Phis = append(join.Phis, x)
 	}
-	blocks := []api.Block{Goes(1, Read(0)), join}
+	blocks := []api.Block{first, join}
 	for w := range ways {
-		// A phi that isn't 0 leads back; the value that is read comes to each of them again and again.
-		blocks = append(blocks, Branch(1+below(phis), 1, 3+w))
+		blocks = append(blocks, Branch(reads+below(phis), 1, 3+w))
 	}
 	last := &blocks[len(blocks)-1]
 	last.End, last.To, last.Else = api.GoTo, 1, 0
@@ -129,17 +133,20 @@ func joined(phis, ways, known int, seed uint64) api.Code {
 	return c
 }
 
-// TestManyWaysToManyPhis: as many of both as there may be together, with all known and with none.
+// lead answers inputs of joined code that lead its run on short ways, on long ones, and on all.
+func lead() [][]int64 {
+	return [][]int64{nums(1, 2, 3, 4, 5, 6, 7, 8), nums(0, 0, 0, 0, 0, 0, 0, 9), nums(0, 1, 0, 2, 0, 3, 0, 4), make([]int64, reads)}
+}
+
+// TestManyWaysToManyPhis: as many of both as there may be together.
 func TestManyWaysToManyPhis(t *testing.T) {
 	t.Parallel()
-	for _, x := range [][2]int{{1000, 996}, {1022, 974}, {1024, 972}, {1100, 896}, {900, 1096}, {500, 1496}, {1500, 496}, {1800, 196}, {1925, 71}, {60, 1936}} {
-		for _, known := range []int{0, x[0]} {
-			c := joined(x[0], x[1], known, 5)
-			wantSmall(t, c)
-			h := newHolder(t, c, known > 0)
-			h.holdRun(t, nums(5), 40)
-			h.holdRun(t, nums(0), 2*x[1])
-		}
+	for k, x := range [][2]int{{1000, 988}, {1010, 979}, {1024, 964}, {1100, 889}, {900, 1088}, {500, 1488}, {1500, 489}, {1800, 188}, {1920, 69}, {120, 1868}, {70, 1918}, {60, 1928}} {
+		c := joined(x[0], x[1], x[0], 5)
+		wantSmall(t, c)
+		h := newHolder(t, c, k%2 == 0)
+		h.holdRun(t, lead()[2], 60)
+		h.holdRun(t, lead()[k%4], 25)
 	}
 }
 
@@ -147,116 +154,135 @@ func TestManyWaysToManyPhis(t *testing.T) {
 func TestManyWaysFewToBeCarried(t *testing.T) {
 	t.Parallel()
 	for _, take := range []func(p, way int) int{
-		func(p, way int) int { return 1 + p },
-		func(p, way int) int { return (p + way) % 2 * (1 + p) },
-		func(p, way int) int { return 0 },
-		func(p, way int) int { return 1 + way },
-		func(p, way int) int { return 1 + (p+way)%995 },
+		func(p, way int) int { return reads + p },
+		func(p, way int) int { return (p + way) % 2 * (reads + p) },
+		func(p, way int) int { return way % reads },
+		func(p, way int) int { return reads + way },
+		func(p, way int) int { return reads + (p+way)%989 },
 	} {
-		c := joined(996, 996, 996, 1)
+		c := joined(989, 989, 989, 1)
 		for p, x := range c.Funs[0].Blocks[1].Phis {
 			for way := range x.Args[1:] {
-				x.Args[1+way] = take(p, way)
+				c.Funs[0].Blocks[1].Phis[p].Args[1+way] = take(p, way)
 			}
 		}
 		wantSmall(t, c)
 		h := newHolder(t, c, true)
-		h.holdRun(t, nums(5), 60)
-		h.holdRun(t, nums(0), 2000)
+		h.holdRun(t, lead()[2], 60)
+		h.holdRun(t, lead()[1], 30)
 	}
 }
 
-// steady is code of ways that come by ferry to two blocks with phis, in a function that is called in another one; which way is gone is read.
-func steady(phis, ways int, seed uint64) api.Code {
+// steady is code of ways that go by ferry to two blocks with phis, in a function that another one calls; which way is gone is read.
+func steady(phis, more, ways int, seed uint64) api.Code {
 	below := dice(seed)
 	c := joined(phis, ways, phis, seed)
 	f := &c.Funs[0]
 	f.Params = 1
-	f.Vals = 1 + phis + ways + 40
 	f.Blocks[0].Insts[0] = Param(0, 0)
-	second := len(f.Blocks)
+	made, second := reads+phis, 2+ways
 	for w := range ways {
-		b := &f.Blocks[2+w]
-		read := 1 + phis + w
-		*b = Branch(read, 1, 3+w, Read(read))
+		f.Blocks[2+w] = Branch(made+w, 1, 3+w, Read(made+w))
 		if w%3 == 0 {
-			b.To = second
+			f.Blocks[2+w].To = second
 		}
+	}
+	f.Blocks[1+ways].Else = second + 1
+	// Of three blocks two go on to the first one with phis, and the second one does.
+	for p, x := range f.Blocks[1].Phis {
+		f.Blocks[1].Phis[p].Args = x.Args[:1+ways-(ways+2)/3+1]
 	}
 	last := Goes(1)
-	for p := range 40 {
-		x := Phi(1+phis+ways+p, 1+below(phis))
-		for w := range ways {
-			if w%3 == 0 && w > 0 {
-				x.Args = append(x.Args, 1+below(phis))
-			}
+	for p := range more {
+		x := Phi(made+ways+p, reads+below(phis))
+		for w := 3; w < ways; w += 3 {
+			x.Args = append(x.Args, reads+below(phis))
 		}
-		last.Phis = append(last.Phis, x)
-		last.Insts = append(last.Insts, Show(x.Dst))
+		last.Phis, last.Insts = append(last.Phis, x), append(last.Insts, Show(x.Dst))
 	}
-	end := Answers(1, At(1, Mark(IsValue(0, 2, 1, 0))))
-	f.Blocks[1+ways].Else = second + 1
-	f.Blocks = append(f.Blocks, last, end)
-	// The blocks that go on to the first one are others now.
-	for p, x := range f.Blocks[1].Phis {
-		x.Args = []int{0}
-		for w := range ways {
-			if w%3 > 0 {
-				x.Args = append(x.Args, below(1+phis))
-			}
-		}
-		f.Blocks[1].Phis[p].Args = append(x.Args, below(1+phis))
-	}
-	return Program(Fun(0, Ends(Read(0), At(2, Call(1, 1, 0), IsValue(3, 0, 1, 0)), Show(1))), c.Funs[0])
+	f.Blocks = append(f.Blocks, last, Answers(reads, At(1, Mark(IsValue(0, reads+1, 1, 0)))))
+	f.Vals = made + ways + more
+	return Program(Fun(0, Ends(Read(0), At(2, Call(1, 1, 0), IsValue(3, 0, 1, 0)), Show(1))), *f)
 }
 
-// TestFerries: two in one function, one of which has more lots than a trip; each way is gone.
+// TestFerries: two in one function, that have as many lots as a trip has, and one less or more, or two trips.
 func TestFerries(t *testing.T) {
 	t.Parallel()
-	c := steady(500, 480, 3)
-	wantSmall(t, c)
-	for _, all := range []bool{false, true} {
-		h := newHolder(t, c, all)
-		for way := range 24 {
-			input := []int64{int64(way + 3)}
-			for _, k := range []int{way * 20, way*20 + 7, 479 - way} {
-				input = append(append(input, make([]int64, k)...), 1)
-			}
-			if end := h.holdRun(t, input, 9000); end != api.TrapIn {
-				t.Error(end)
-			}
-			if end := h.holdRun(t, append(input, make([]int64, 480)...), 9000); end != api.Halt {
-				t.Error(end)
+	for _, x := range [][3]int{{490, 40, 450}, {450, 75, 430}, {440, 76, 430}, {400, 150, 420}} {
+		c := steady(x[0], x[1], x[2], 3)
+		if size(c) > 2000 {
+			t.Fatal(size(c))
+		}
+		for _, all := range []bool{false, true} {
+			h := newHolder(t, c, all)
+			for way := range 8 {
+				input := nums(9, 8, 7, 6, 5, 4, 3, int64(way))
+				for _, k := range []int{way * 20, way*20 + 7, x[2] - 1 - way} {
+					input = append(append(input, make([]int64, k)...), 1)
+				}
+				if end := h.holdRun(t, input, 9000); end != api.TrapIn {
+					t.Error(end)
+				}
+				if end := h.holdRun(t, append(input, make([]int64, x[2])...), 9000); end != api.Halt {
+					t.Error(end)
+				}
 			}
 		}
+	}
+}
+
+// TestSmallFerries: code of all kinds, whose ways go by ferry, though there is room for them.
+func TestSmallFerries(t *testing.T) {
+	t.Parallel()
+	hold := func(c api.Code, all bool, fuel int, inputs ...[]int64) {
+		t.Helper()
+		img, is := emit.ByFerry(c, all)
+		if !is {
+			t.Fatal("too long, or too slow")
+		}
+		wantSound(t, c, img)
+		for _, input := range inputs {
+			holderOf(c, img, all).holdRun(t, input, fuel)
+		}
+	}
+	below := dice(24)
+	for k := range 200 {
+		phis, ways := 3+below(40)+below(2)*below(200), 10+below(60)
+		all := k%2 == 0
+		hold(joined(phis, ways, 1+below(phis), uint64(k)), all, 80, lead()...)
+		c := steady(phis, 3+below(30), 30+ways, uint64(k))
+		zeros := make([]int64, below(ways))
+		input := append(append(lead()[k%4], zeros...), 1)
+		input = append(append(append(input, zeros...), 1, 1), zeros...)
+		hold(c, all, 600, append(input, 1), append(input, make([]int64, 200)...))
+		hold(plainCode(t, uint64(k)), all, 300, samples.Bits(uint64(k), k%30))
 	}
 }
 
 // TestFerriesGoInTime: where a run does nothing but go by them, on the shortest way that leads back.
 func TestFerriesGoInTime(t *testing.T) {
 	t.Parallel()
-	for _, x := range [][2]int{{1000, 995}, {1500, 495}, {1900, 95}, {1920, 75}} {
-		for way := range 4 {
+	for _, x := range [][2]int{{1000, 988}, {1500, 488}, {1920, 68}} {
+		for way := range 3 {
 			c := joined(x[0], x[1], 0, 5)
 			b := &c.Funs[0].Blocks[1]
-			b.Insts = append(b.Insts, Mark(IsValue(0, 1, 1, 0)))
+			b.Insts = append(b.Insts, Mark(IsValue(0, reads, 1, 0)))
 			wantSmall(t, c)
-			// All phis have what was read: it leads back from the first block that asks for it.
+			// No phi has 0: so the first block that asks for one leads back.
 			for w := range way {
 				c.Funs[0].Blocks[2+w] = Goes(3 + w)
 			}
 			for p := range b.Phis {
 				b.Phis[p].Args = b.Phis[p].Args[:1+x[1]-way]
 			}
-			want, e := trace.Run(c, nums(1), 200)
+			want, e := trace.Run(c, lead()[0], 200)
 			if e != api.OK || want.End != api.StopFuel || want.Marks < 30 {
 				t.Fatal(e, want)
 			}
-			m, _ := vm.New(mustImage(t, c, false), nums(1))
+			m, _ := vm.New(mustImage(t, c, false), lead()[0])
 			for range want.Marks {
 				m.ToMark(1 << 30)
 			}
-			t.Log(x, way, want.Marks, m.Status().Steps, enough(c, want.Steps))
 			if n := m.Status(); n.Marks != want.Marks || n.Steps > enough(c, want.Steps) {
 				t.Errorf("%d steps of the machine to %d marks, for %d steps", n.Steps, n.Marks, want.Steps)
 			}
@@ -294,11 +320,11 @@ func TestCodeThatIsTooGreat(t *testing.T) {
 	calls.Funs[0].Vals = 100
 	wantNoImage(t, "calls", calls, api.ErrLimit)
 	wantNoImage(t, "ways to phis", joined(6000, 2000, 0, 1), api.ErrForm)
-	ways := joined(6000, 600, 6000, 1)
-	ways.Funs[0].Vals = 6001
+	ways := joined(3000, 600, 3000, 1)
+	ways.Funs[0].Vals = 3000 + reads
 	wantNoImage(t, "ways to phis", ways, api.ErrLimit)
 	few := joined(18000, 10, 0, 1)
-	few.Funs[0].Vals = 18001
+	few.Funs[0].Vals = 18000 + reads
 	wantNoImage(t, "few ways to very many phis", few, api.ErrLimit)
 }
 

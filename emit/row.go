@@ -40,7 +40,7 @@ func (w *writer) embark(b, to int) bool {
 // board puts the lots of a way's trip into registers. A slot's number in a lot is at least 1, so that there are no more where nothing is left.
 func (w *writer) board(x *crossing, trip, way int) {
 	arg, _ := slices.BinarySearch(w.from[x.to], x.from[way])
-	for r, phis := range w.tripOf(x, trip) {
+	for r, phis := range tripOf(x, trip) {
 		lot := int64(0)
 		for k, y := range phis {
 			lot |= int64(w.seats[y.Args[arg]]-firstSlot+1) << (2 * w.ferry.half * k)
@@ -49,10 +49,9 @@ func (w *writer) board(x *crossing, trip, way int) {
 	}
 }
 
-// tripOf answers the phis of a trip's lots.
-func (w *writer) tripOf(x *crossing, trip int) [][]api.Inst {
-	lots := w.lots(x)
-	return lots[trip*mostLots : min(len(lots), (trip+1)*mostLots)]
+// tripOf answers the lots of a trip.
+func tripOf(x *crossing, trip int) [][]api.Inst {
+	return x.lots[trip*mostLots : min(len(x.lots), (trip+1)*mostLots)]
 }
 
 // row writes the ferry's row: the trips, how a lot's slots are fetched, one by one, and where they are brought when nothing of the lot is left.
@@ -89,7 +88,7 @@ func (w *writer) row() {
 
 // trip writes what is done on a trip till its first slot is looked at.
 func (w *writer) trip(x *crossing, i int) {
-	y, lots := w.ferry, w.tripOf(x, i)
+	y, lots := w.ferry, tripOf(x, i)
 	if i > 0 {
 		w.here(x.trips[i].begin)
 		w.ready()
@@ -127,12 +126,11 @@ func (w *writer) bring(lot int) {
 	last, _ := slices.BinarySearchFunc(y.crossings, lot+1, func(x *crossing, n int) int { return x.first - n })
 	x := y.crossings[last-1]
 	at := lot - x.first
-	lots := w.lots(x)
-	for k := range lots[at] {
-		w.store(y.parcels+at*y.fits+k, lastReg+1-len(lots[at])+k)
+	for k := range x.lots[at] {
+		w.store(y.parcels+at*y.fits+k, lastReg+1-len(x.lots[at])+k)
 	}
 	switch next := at + 1; {
-	case next == len(lots):
+	case next == len(x.lots):
 		w.jump(api.MJump, 0, x.done)
 	case next%mostLots == 0:
 		w.jump(api.MJump, 0, x.trips[next/mostLots].begin)

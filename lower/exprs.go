@@ -65,11 +65,26 @@ func (w *writer) called(e api.Expr) (int64, []int) {
 }
 
 func (w *writer) binary(e api.Expr) int {
-	if e.Op == api.LAnd || e.Op == api.LOr {
+	op := e.Op
+	switch op {
+	case api.LAnd:
+		op = api.And
+	case api.LOr:
+		op = api.Or
+	}
+	if op != e.Op && !isAtHand(e.Args[1]) {
 		return w.lazy(e)
 	}
 	left := w.expr(e.Args[0])
-	return w.make(e.Op, 0, left, w.expr(e.Args[1]))
+	return w.make(op, 0, left, w.expr(e.Args[1]))
+}
+
+// isAtHand tells whether an expression is a variable, true or false, or the opposite of one: nothing is won by going round it, and nothing happens where it is looked at.
+func isAtHand(e api.Expr) bool {
+	for e.Kind == api.EUn && e.Op == api.Bang {
+		e = e.Args[0]
+	}
+	return e.Kind == api.EVar || e.Kind == api.EBool
 }
 
 // lazy goes round the right operand where the left one decides: what is answered then is the left one. As the block from which that comes was made first, its value is the phi's first.

@@ -284,6 +284,25 @@ func TestAgainstTheSource(t *testing.T) {
 	}
 }
 
+// TestWhatIsNotGoneRound: right operands at which looking does nothing stand in a row; where anything is done, or may trap, it is gone round.
+func TestWhatIsNotGoneRound(t *testing.T) {
+	for right, row := range map[string]bool{
+		"b": true, "true": true, "false": true, "!b": true, "!!b": true, "!true": true,
+		"n < 3": false, "!(n < 3)": false, "f(b)": false, "!f(b)": false, "6 / n > 1": false, "c[n] > 0": false, "read() > 4": false, "(b && n < 3)": false,
+	} {
+		for _, sign := range []string{"&&", "||"} {
+			s := "fn f(b: bool): bool { print b; return !b; } fn main(): int { let c: arr[3]; let n: int = read(); let a: bool = read() > 0; let b: bool = read() > 0; print a " + sign + " " + right + "; print f(a) " + sign + " " + right + "; return n; }"
+			for _, input := range [][]int64{nums(0, 0, 0), nums(0, 1, 0, 5, 5), nums(2, 0, 1, 3, 4), nums(7, 1, 1)} {
+				hold(t, s, input, 50)
+			}
+			c := mustLower(t, mustParse(t, s))
+			if (len(c.Funs[c.Main].Blocks) == 1) != row {
+				t.Errorf("%d blocks, of %s", len(c.Funs[c.Main].Blocks), s)
+			}
+		}
+	}
+}
+
 // rows answers all rows of so many signs.
 func rows(signs string, n int) []string {
 	if n == 0 {
